@@ -1,0 +1,1 @@
+"""Entablature: a database desk whose answers are those of one serial history."""

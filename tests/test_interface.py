@@ -1,0 +1,78 @@
+"""The names of the interface: where they are defined, and with which arguments."""
+
+import ast
+import os
+import unittest
+
+TOP = os.path.dirname(os.path.dirname(os.path.abspath(__file__)))
+
+FUNCTIONS = {
+    "value": ["is_value(x, kind)", "fault(code)", "is_fault(x)", "least_fault(xs)", "order(a, b)", "row_order(a, b)",
+              "sorted_rows(rows)"],
+    "operators": ["kind_of(name, kinds)", "worked(name, args)", "may_fault(name)", "is_strict(name)"],
+    "column": ["packed(values, kind, packing)", "unpacked(data)", "best(values, kind)"],
+    "bound": ["bound(values)", "may_hold(name, bound, value)"],
+    "schema": ["check_schema(schema)", "fits(schema, row)"],
+    "store": ["segmented(schema, rows, packing, size)", "segment_rows(schema, segment)"],
+    "words": ["words(text)"],
+    "grammar": ["parse(text)"],
+    "printer": ["printed(tree)"],
+    "binder": ["bind(tree, schemas)"],
+    "plan": ["kinds(plan, schemas)", "nodes(plan)", "used(expr)", "put_in(expr, exprs)", "moved(expr, places)",
+             "parts(cond)", "joined(conds)"],
+    "meaning": ["answer(plan, tables)", "value_of(expr, row, outers, tables)", "bag(plan, outers, tables)"],
+}
+
+CLASSES = {
+    "errors": {"PeristyleError": [], "BadText": ["__init__(self, at)"], "BadName": ["__init__(self, at)"],
+               "BadKind": ["__init__(self, at)"], "BadForm": [], "BadKey": [], "NoSuch": [], "TooMuch": [],
+               "Stale": [], "Behind": []},
+    "store": {"Store": ["create(self, schema)", "drop(self, name)", "schemas(self)", "schema(self, name)",
+                        "version(self)", "commit(self, changes)", "rows(self, name, version)",
+                        "segments(self, name, version)", "pack(self, name, packing)", "settle(self, name, size)"]},
+}
+
+
+def tree_of(module):
+    with open(os.path.join(TOP, "entablature", module + ".py"), encoding="utf-8") as source:
+        return ast.parse(source.read())
+
+
+def head(function):
+    return f"{function.name}({', '.join([arg.arg for arg in function.args.args])})"
+
+
+class Interface(unittest.TestCase):
+
+    def test_functions_are_defined_in_their_files(self):
+        for module, heads in FUNCTIONS.items():
+            found = [head(node) for node in tree_of(module).body if isinstance(node, ast.FunctionDef)]
+            for told in heads:
+                self.assertIn(told, found, module)
+
+    def test_classes_are_defined_in_their_files_with_their_methods(self):
+        for module, classes in CLASSES.items():
+            found = {node.name: node for node in tree_of(module).body if isinstance(node, ast.ClassDef)}
+            for name, methods in classes.items():
+                told = [head(node) for node in found[name].body if isinstance(node, ast.FunctionDef)]
+                for method in methods:
+                    self.assertIn(method, told, name)
+
+    def test_errors_stand_right_below_one(self):
+        found = {node.name: node for node in tree_of("errors").body if isinstance(node, ast.ClassDef)}
+        for name, node in found.items():
+            base = "ValueError" if name == "PeristyleError" else "PeristyleError"
+            self.assertEqual([part.id for part in node.bases], [base])
+
+    def test_errors_have_their_fields(self):
+        from entablature.errors import BadForm, BadKind, BadName, BadText, PeristyleError, TooMuch
+        for made in (BadText(3), BadName(4), BadKind(-1)):
+            self.assertIsInstance(made, PeristyleError)
+            self.assertIsInstance(made, ValueError)
+        self.assertEqual((BadText(3).at, BadName(4).at, BadKind(-1).at), (3, 4, -1))
+        self.assertIsInstance(BadForm(), PeristyleError)
+        self.assertIsInstance(TooMuch(), PeristyleError)
+
+
+if __name__ == "__main__":
+    unittest.main()
