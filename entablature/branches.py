@@ -44,6 +44,20 @@ def inputs_of(plan):
     return []
 
 
+def width_over(plan, inputs):
+    """How many columns a plan that is no scan has, if its inputs have so many."""
+    word = plan[0]
+    if word in ("rows", "select"):
+        return len(plan[1])
+    if word == "group":
+        return len(plan[1]) + len(plan[2])
+    if word == "window":
+        return inputs[0] + len(plan[1])
+    if word == "join" and plan[1] not in ("semi", "anti"):
+        return inputs[0] + inputs[1]
+    return inputs[0]
+
+
 def new_items(items, exprs):
     """Items of an order with other expressions."""
     return tuple([(expr, item[1], item[2]) for item, expr in zip(items, exprs)])

@@ -5,6 +5,7 @@ A lifted call is left in its expression as ("agg", number, kind, place) or ("win
 
 from entablature.errors import BadKind
 from entablature.fitting import AGGS, COUNTED, NEIGHBOURS
+from entablature.syntax import terms_of
 
 EDGE_ORDER = ("start", "before", "here", "after", "end")
 
@@ -77,21 +78,6 @@ def expr_with(expr, change):
     if word == "call":
         return call_with(expr, change)
     return expr
-
-
-def terms_of(expr):
-    """The expressions that stand in an expression; queries in it are none."""
-    word = expr[0]
-    if word == "op":
-        return list(expr[2])
-    if word == "case":
-        return [part for pair in expr[1] for part in pair] + [expr[2]]
-    if word == "in":
-        return [expr[1]]
-    if word == "call":
-        over = [] if expr[5] is None else list(expr[5][0]) + [item[0] for item in expr[5][1]]
-        return list(expr[3]) + over
-    return []
 
 
 def has_agg(expr):

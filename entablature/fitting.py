@@ -116,7 +116,7 @@ class Fitting:
         if word == "rows":
             return self.rows_plan(plan)
         if word == "join":
-            return self.join(plan, outers)
+            return self.join_plan(plan, outers)
         if word in ("union", "except", "meet"):
             left, right = parts_in(plan, 2)
             kinds = self.plan(left, outers)
@@ -164,7 +164,7 @@ class Fitting:
             demand(all([is_value(x, kind) for x, kind in zip(row, kinds)]))
         return kinds
 
-    def join(self, plan, outers):
+    def join_plan(self, plan, outers):
         """The kinds of a join."""
         side, cond, left, right = parts_in(plan, 4)
         demand(type(side) is str and side in SIDES)

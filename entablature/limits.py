@@ -1,6 +1,6 @@
 """The bounds of plans that are right otherwise."""
 
-from entablature.branches import args_of, exprs_of, inputs_of, plans_of
+from entablature.branches import args_of, exprs_of, inputs_of, plans_of, width_over
 from entablature.errors import TooMuch
 
 MOST_COLUMNS = 24
@@ -36,25 +36,10 @@ class Tally:
         for expr in exprs_of(plan):
             self.expr(expr, deep + 1)
         inputs = [self.plan(below, deep + 1) for below in inputs_of(plan)]
-        width = self.width(plan, inputs)
+        width = self.widths[plan[1]] if plan[0] == "scan" else width_over(plan, inputs)
         if width > MOST_COLUMNS:
             raise TooMuch()
         return width
-
-    def width(self, plan, inputs):
-        """How many columns a plan has whose inputs have so many."""
-        word = plan[0]
-        if word == "scan":
-            return self.widths[plan[1]]
-        if word in ("rows", "select"):
-            return len(plan[1])
-        if word == "group":
-            return len(plan[1]) + len(plan[2])
-        if word == "window":
-            return len(plan[1]) + inputs[0]
-        if word == "join" and plan[1] not in ("semi", "anti"):
-            return inputs[0] + inputs[1]
-        return inputs[0]
 
 
 def widths_of(schemas):

@@ -1,7 +1,8 @@
 """What plans and expressions mean: their rows and values on tables, worked out straight from the document."""
 
 from entablature.aggregate import aggregated, different
-from entablature.branches import args_of, exprs_of, gather_plan_leaves, inputs_of, plans_of, with_args, with_parts
+from entablature.branches import args_of, exprs_of, gather_plan_leaves, inputs_of, plans_of, width_over
+from entablature.branches import with_args, with_parts
 from entablature.operators import worked
 from entablature.sorting import ranked
 from entablature.value import MANY, fault, is_fault, least_fault, sorted_rows
@@ -181,19 +182,9 @@ def joined_rows(plan, left, right, outers, ground):
 
 def width_of(plan, ground):
     """The number of columns of a plan."""
-    word = plan[0]
-    if word == "scan":
+    if plan[0] == "scan":
         return len(ground.tables[plan[1]][0][1])
-    if word in ("rows", "select"):
-        return len(plan[1])
-    if word == "group":
-        return len(plan[1]) + len(plan[2])
-    inputs = [width_of(below, ground) for below in inputs_of(plan)]
-    if word == "window":
-        return inputs[0] + len(plan[1])
-    if word == "join" and plan[1] not in ("semi", "anti"):
-        return inputs[0] + inputs[1]
-    return inputs[0]
+    return width_over(plan, [width_of(below, ground) for below in inputs_of(plan)])
 
 
 def grouped_rows(plan, rows, outers, ground):

@@ -33,8 +33,8 @@ def select_parts(body):
     return found + list(body[5] or ())
 
 
-def expr_parts(expr):
-    """The queries and expressions that stand in an expression."""
+def terms_of(expr):
+    """The expressions that stand in an expression, from the left; a query in it is none."""
     word = expr[0]
     if word == "op":
         return list(expr[2])
@@ -42,10 +42,17 @@ def expr_parts(expr):
         return case_parts(expr)
     if word == "call":
         return call_parts(expr)
-    if word in ("scalar", "exists"):
-        return [expr[1]]
     if word == "in":
-        return [expr[1], expr[2]]
+        return [expr[1]]
+    return []
+
+
+def queries_of(expr):
+    """The queries that stand in an expression: one or none."""
+    if expr[0] in ("scalar", "exists"):
+        return [expr[1]]
+    if expr[0] == "in":
+        return [expr[2]]
     return []
 
 
@@ -64,7 +71,7 @@ def parts_of(node):
         return [node[1]]
     if word == "joined":
         return [part for part in (node[2], node[3], node[4]) if part is not None]
-    return expr_parts(node)
+    return terms_of(node) + queries_of(node)
 
 
 def check_tree(tree):
