@@ -38,10 +38,6 @@ class Reader:
         at = min(self.at + far, len(self.things) - 1)
         return self.things[at][:2]
 
-    def is_next(self, sort, worth):
-        """Whether the next thing is this one."""
-        return self.ahead(0) == (sort, worth)
-
     def is_key(self, word):
         """Whether the next thing is this reserved word."""
         return self.ahead(0) == ("key", word)

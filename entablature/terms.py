@@ -149,9 +149,7 @@ class TermReader(Reader):
             return self.named()
         if self.is_mark("("):
             return self.bracketed()
-        if not self.is_sort("key"):
-            self.fail()
-        if self.ahead(0)[1] in TRUTHS:
+        if self.is_sort("key") and self.ahead(0)[1] in TRUTHS:
             return ("lit", TRUTHS[self.skip()], at)
         if self.is_key("CASE"):
             return self.choice()

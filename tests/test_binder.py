@@ -96,6 +96,12 @@ class Plans(unittest.TestCase):
         self.check("SELECT y.* FROM u x, u y", select(join("inner", YES, U, U), col(2), col(3)), "a d")
         self.check("SELECT * FROM (SELECT 1, 2 AS a) x", select(select(ROW, num(1), num(2)), col(0), col(1)), "c1 a")
 
+    def test_stars_in_inner_queries(self):
+        star = select(T, col(0), col(1), col(2))
+        self.check("SELECT x.c, b FROM (SELECT * FROM t) x", select(star, col(2), col(1)), "c b")
+        self.check("SELECT * FROM v UNION ALL SELECT 'a'", ("union", select(V, col(0)), select(ROW, text("a"))), "e")
+        self.check("SELECT (SELECT v.* FROM v) || 'x'", select(ROW, op("cat", ("scalar", select(V, col(0))), text("x"))), "c1")
+
     def test_names_of_several_levels(self):
         inner = select(where(op("eq", col(0), outer(1, 0)), U), col(1))
         self.check("SELECT (SELECT d FROM u WHERE u.a = t.a) FROM t", select(T, ("scalar", inner)), "c1")
@@ -220,6 +226,12 @@ class Plans(unittest.TestCase):
         fun = ("sum", col(1), (col(2),), ((col(3), True, True), up(col(0))), None)
         self.check("SELECT b, sum(sum(a)) OVER (PARTITION BY max(a) ORDER BY min(a) DESC, b) FROM t GROUP BY b",
                    select(("window", (fun,), group), col(0), col(4)), "b c2")
+        fun = ("sum", col(0), (), ((col(1), False, True), (col(0), True, False)), None)
+        self.check("SELECT 1 FROM t ORDER BY sum(sum(a)) OVER (ORDER BY min(a) NULLS FIRST, sum(a) DESC NULLS LAST)",
+                   select(top((up(col(1)),), select(("window", (fun,), ("group", (), (("sum", False, col(0)), ("min", False, col(0))), T)),
+                                                    num(1), col(2))), col(0)), "c1")
+        fun = ("count", col(1), (), (), None)
+        self.check("SELECT count(b) OVER () + 1 FROM t", select(("window", (fun,), T), op("add", col(3), num(1))), "c1")
         self.check("SELECT rank() OVER (ORDER BY a + 1) FROM t GROUP BY a + 1 HAVING a + 1 > 2",
                    select(("window", (("rank", None, (), (up(col(0)),), None),),
                            where(op("gt", col(0), num(2)), ("group", (op("add", col(0), num(1)),), (), T))), col(1)), "c1")
@@ -379,7 +391,7 @@ class Mistakes(unittest.TestCase):
                       "SELECT a FROM t UNION ({K}SELECT b FROM t)", "SELECT 'a' UNION {K}SELECT NULL", "SELECT a FROM t EXCEPT {K}VALUES ('a')",
                       "VALUES (1, 2), (3, 4), ({K}5)", "VALUES (1), ({K}2, 3)", "VALUES (nope), ({K}1, 2)", "VALUES (1), ({K}'a')", "VALUES (NULL), ('a'), ({K}1)",
                       "VALUES (1 + 1), ({K}'a')", "SELECT sum({K}b) FROM t", "SELECT avg({K}c) FROM t", "SELECT every({K}a) FROM t", "SELECT some({K}b) FROM t",
-                      "SELECT sum({K}b) OVER () FROM t", "SELECT every({K}a) OVER () FROM t", "SELECT upper({K}sum(a)) FROM t", "SELECT upper({K}rank() OVER ()) FROM t",
+                      "SELECT sum({K}b) OVER () FROM t", "SELECT every({K}a) OVER () FROM t", "SELECT upper({K}sum(a)) FROM t", "SELECT upper({K}rank() OVER ()) FROM t", "SELECT upper({K}count(b) OVER ()) FROM t", "SELECT upper({K}count(b)) FROM t",
                       "SELECT like({K}1)".replace("like({K}1)", "1 LIKE 2").replace("1 LIKE", "{K}1 LIKE"), "SELECT 'a' LIKE {K}2",
                       "SELECT upper({K}CASE WHEN c THEN NULL END) FROM t", "SELECT upper({K}coalesce(NULL, NULL)) FROM t"]:
             self.check(query)
@@ -413,7 +425,8 @@ class Mistakes(unittest.TestCase):
     def test_a_refused_call_goes_ahead_of_its_arguments(self):
         for query in ["SELECT {K}foo(nope) FROM t", "SELECT {K}sum(nope, 1) FROM t", "SELECT {K}rank(nope) OVER () FROM t", "SELECT {K}lag(nope) FROM t",
                       "SELECT 1 FROM t WHERE {K}sum(nope) > 1", "SELECT {K}abs(nope) OVER (ORDER BY nope) FROM t", "SELECT {K}foo(sum(nope)) FROM t",
-                      "SELECT {K}rank(sum(nope)) OVER () FROM t", "SELECT {K}foo(rank() OVER (ORDER BY nope)) FROM t", "SELECT sum(nope + {K}sum(a)) FROM t".replace("nope", "a"),
+                      "SELECT {K}rank(sum(nope)) OVER () FROM t", "SELECT {K}foo(rank() OVER (ORDER BY nope)) FROM t",
+                      "SELECT sum({K}sum(sum(nope)) OVER ()) OVER () FROM t", "SELECT sum(a) OVER (ORDER BY {K}sum(sum(nope)) OVER ()) FROM t", "SELECT sum(nope + {K}sum(a)) FROM t".replace("nope", "a"),
                       "SELECT sum({N}nope + sum(a)) FROM t", "SELECT sum({K}sum(a) + nope) FROM t", "SELECT 1 FROM t HAVING {K}sum(sum(nope)) OVER () > 1",
                       "SELECT {K}sum(nope) OVER (ROWS BETWEEN CURRENT ROW AND UNBOUNDED PRECEDING) FROM t",
                       "SELECT {K}sum(sum(nope)) OVER (ROWS BETWEEN CURRENT ROW AND UNBOUNDED PRECEDING) FROM t", "VALUES ({K}sum(nope))"]:

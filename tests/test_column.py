@@ -21,7 +21,8 @@ def columns():
     rnd = random.Random(3)
     found = [("int", []), ("text", []), ("bool", []), ("int", [None]), ("text", [None] * 9), ("bool", [None] * 256),
              ("int", [TOP - 1, 1 - TOP, TOP - 1]), ("int", [1 - TOP]), ("int", [5] * 256), ("text", ["x" * 200] * 3),
-             ("text", ["", "~", " ", ""]), ("bool", [True, False, None, True]), ("int", list(range(256)))]
+             ("text", ["", "~", " ", ""]),
+             ("text", [chr(code) for code in range(32, 127) if code != 37]), ("bool", [True, False, None, True]), ("int", list(range(256)))]
     for _ in range(150):
         kind = rnd.choice(KINDS)
         many = rnd.choice((0, 1, 2, 7, 8, 9, 17, 40))

@@ -360,6 +360,28 @@ class Mistakes(unittest.TestCase):
         with self.assertRaises(TooMuch):
             parse("SELECT " + "(" * 11 + "a" + " IN (1,2,3,4,5,6,7,8,9))" * 11)
 
+    def test_depth_at_each_place(self):
+        def deep(tree):
+            """How deep a tree is nested; its words tell which tuples count."""
+            if type(tree) is not tuple or not tree:
+                return 0
+            below = max([deep(part) for part in tree])
+            words = "query set values select table sub joined lit name op in scalar exists case call".split()
+            return below + (1 if type(tree[0]) is str and tree[0] in words and len(tree) > 2 else 0)
+        for text in ["SELECT @", "SELECT 1, @ AS x", "SELECT 1 WHERE @", "SELECT 1 GROUP BY a, @", "SELECT 1 HAVING @", "SELECT 1 ORDER BY a, @",
+                     "SELECT 1 FROM t JOIN u ON @", "SELECT 1 FROM t JOIN (SELECT @) x ON b", "SELECT 1 FROM (SELECT @) x JOIN t ON b",
+                     "SELECT 1 FROM t, (SELECT @) x", "SELECT 1 FROM (SELECT @) x CROSS JOIN t", "WITH w AS (SELECT @) SELECT 1", "VALUES (1), (2, @)",
+                     "SELECT @ UNION SELECT 1", "SELECT 1 EXCEPT SELECT @", "SELECT 1 INTERSECT ALL (SELECT @)", "((SELECT @))", "SELECT (SELECT @)",
+                     "SELECT EXISTS (SELECT @)", "SELECT a IN (SELECT @)", "SELECT (@) IN (SELECT 1)", "SELECT (@) IN (1, 2)", "SELECT 1 IN (2, @)",
+                     "SELECT CASE WHEN @ THEN 1 END", "SELECT CASE WHEN a THEN @ END", "SELECT CASE WHEN a THEN 1 ELSE @ END", "SELECT f(a, @)",
+                     "SELECT mod(@, 1)", "SELECT f() OVER (PARTITION BY a, @)", "SELECT f() OVER (ORDER BY a, @)", "SELECT NOT (@)", "SELECT - (@)",
+                     "SELECT (@) IS NOT TRUE", "SELECT a BETWEEN 1 AND @", "SELECT 1 UNION SELECT 2 UNION SELECT @", "SELECT 1 FROM t JOIN u ON @ JOIN v ON TRUE"]:
+            fits = 60 - deep(parse(text.replace("@", "+".join(["a"] * 40)))) + 40
+            tree = parse(text.replace("@", "+".join(["a"] * fits)))
+            self.assertEqual(deep(tree), 60, text)
+            with self.assertRaises(TooMuch, msg=text):
+                parse(text.replace("@", "+".join(["a"] * (fits + 1))))
+
     def test_the_number_of_parts(self):
         # A query, a select and 20 outs of 249 parts each: an "a" in 2 ** 6 places and so on.
         def parts(tree):

@@ -167,9 +167,33 @@ class Right(unittest.TestCase):
             plan = ("distinct", plan)
         self.refused(TooMuch, plan)
         self.refused(BadKind, ("union", plan, U))
-        for _ in range(30):
+        for _ in range(9):
             plan = ("distinct", plan)
-        self.refused(TooMuch, ("union", plan, U))
+        # 100 words of plans in one another are looked at, 101 are not.
+        self.refused(BadKind, ("union", plan, U))
+        self.refused(TooMuch, ("union", ("distinct", plan), U))
+        for _ in range(39):
+            expr = ("op", "neg", (expr,))
+        self.refused(BadKind, ("select", (("op", "not", (expr,)),), U))
+        self.refused(TooMuch, ("select", (("op", "not", (("op", "neg", (expr,)),)),), U))
+
+    def test_levels_of_plans_in_expressions(self):
+        for wrap in (lambda plan: ("where", ("exists", plan), U), lambda plan: ("select", (("scalar", plan),), U),
+                     lambda plan: ("where", ("in", COL, plan), U)):
+            plan = U
+            for _ in range(29):
+                plan = wrap(plan)
+            self.assertEqual(len(kinds(("distinct", plan), SCHEMAS)), 1)
+            self.refused(TooMuch, ("distinct", ("distinct", plan)))
+            self.refused(TooMuch, wrap(plan))
+        for plan in (("group", (("op", "neg", (COL,)),), (), U), ("group", (), (("sum", False, ("op", "neg", (COL,))),), U),
+                     ("window", (fun("sum", ("op", "neg", (COL,))),), U), ("window", (fun("rank", None, (("op", "neg", (COL,)),)),), U),
+                     ("window", (fun("rank", None, (), ((("op", "neg", (COL,)), False, False),)),), U),
+                     ("top", ((("op", "neg", (COL,)), False, False),), None, 0, U), ("join", "semi", ("op", "isnull", (COL,)), U, U)):
+            for _ in range(57):
+                plan = ("distinct", plan)
+            self.assertGreater(len(kinds(plan, SCHEMAS)), 0)
+            self.refused(TooMuch, ("distinct", plan))
 
     def test_nodes(self):
         self.assertEqual(nodes(T), 1)
@@ -220,7 +244,12 @@ class Right(unittest.TestCase):
             words = ("distinct", words)
         self.refused(TooMuch, words)
         self.refused(TooMuch, ("window", (fun("rows", None, (words,)),), T))
-        self.refused(TooMuch, tuple([()] * 50001))
+        self.refused(TooMuch, tuple([()] * 50000))
+        self.refused(BadKind, tuple([()] * 49999))
+        deep = COL
+        for _ in range(20000):
+            deep = ("op", "neg", (deep,))
+        self.refused(TooMuch, ("select", (deep,), T))
         self.refused(BadKind, tuple([()] * 40000))
         self.refused(BadKind, ("rows", ("int",), tuple([()] * 60000)))
 

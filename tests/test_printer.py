@@ -121,6 +121,7 @@ class Printing(unittest.TestCase):
     def test_long_texts(self):
         told = self.check("SELECT " + ",".join(["1"] * 1400))
         self.assertLessEqual(len(told), 3000)
+        self.assertEqual(len(self.check("SELECT " + ",".join(["1"] * 1497))), 3000)
         self.check("SELECT " + ",".join(["a<b"] * 700))
         with self.assertRaises(TooMuch):
             printed(parse("SELECT " + ",".join(["not a=b"] * 370)))
