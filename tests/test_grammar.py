@@ -329,6 +329,21 @@ class Mistakes(unittest.TestCase):
         self.refused("SELECT " + "(" * 11 + "f", 19)
         self.refused("SELECT " + "(" * 11 + "f(", 18)
 
+    def test_what_is_over_is_nested_no_more(self):
+        for text in ["(a)", "-a", "NOT a", "abs(a)", "f(a)", "CASE WHEN a THEN b ELSE c END", "count(*) OVER (PARTITION BY a)", "(SELECT a)",
+                     "EXISTS (SELECT a)", "a IN (SELECT a)", "a IN (1)", "(SELECT a FROM (SELECT b) x)"]:
+            many = ", ".join([text] * 14)
+            self.assertEqual(len(parse(f"SELECT {many}")[2][2]), 14)
+            self.assertEqual(parse(f"SELECT {many}, {'(' * 11}a{')' * 11}")[0], "query")
+            self.refused(f"SELECT {many}, {'(' * 12}a{')' * 12}", 7 + len(many) + 2 + 11)
+            self.assertEqual(parse(f"SELECT {many}, {'a IN (' * 57}a{')' * 57}")[0], "query")
+            with self.assertRaises(TooMuch):
+                parse(f"SELECT {many}, {'a IN (' * 61} !")
+        with_many = ", ".join([f"w{at} AS (SELECT 1)" for at in range(14)])
+        self.assertEqual(len(parse(f"WITH {with_many} SELECT 1")[1]), 14)
+        self.assertEqual(len(parse("SELECT 1 FROM " + ", ".join([f"(SELECT 1) x{at}" for at in range(14)]))[2][3]), 14)
+        self.assertEqual(parse(" UNION ".join(["(SELECT 1)"] * 14))[0], "query")
+
     def test_lists_in_lists(self):
         with self.assertRaises(TooMuch):
             parse("SELECT " + "a IN (" * 61)

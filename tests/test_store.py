@@ -305,6 +305,8 @@ class Stores(unittest.TestCase):
                     found.extend(segment_rows(T, (columns, bounds, gone)))
                 self.assertEqual(found, rows)
         self.assertEqual(segmented(T, [], 0, 5), [])
+        one = ("one", (("x", "int", True),), ())
+        self.assertEqual([segment_rows(one, segment) for segment in segmented(one, [(1,), (None,), [3]], 1, 2)], [[(1,), (None,)], [(3,)]])
         columns, bounds, _ = segmented(T, [[1, "a"], (2, "b"), (3, None)], 0, 9)[0]
         self.assertEqual(segment_rows(T, (columns, bounds, (0, 2))), [(2, "b")])
         self.assertEqual(segment_rows(T, (columns, bounds, (0, 1, 2))), [])
