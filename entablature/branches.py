@@ -114,6 +114,15 @@ def with_parts(plan, exprs, inputs):
     return plan
 
 
+def with_input(plan, at, below):
+    """A plan with another plan for its input at a place."""
+    if plan[0] == "join":
+        return plan[:3 + at] + (below,) + plan[4 + at:]
+    if plan[0] in BINARY:
+        return plan[:1 + at] + (below,) + plan[2 + at:]
+    return plan[:-1] + (below,)
+
+
 def args_of(expr):
     """The expressions that stand in an expression itself, in the order in which they are written."""
     word = expr[0]

@@ -21,6 +21,12 @@ FUNCTIONS = {
     "plan": ["kinds(plan, schemas)", "nodes(plan)", "used(expr)", "put_in(expr, exprs)", "moved(expr, places)",
              "parts(cond)", "joined(conds)"],
     "meaning": ["answer(plan, tables)", "value_of(expr, row, outers, tables)", "bag(plan, outers, tables)"],
+    "facts": ["facts(plan, schemas)", "safe(expr, faults)"],
+    "rules": ["found(plan, schemas)"],
+    "checker": ["takes(plan, step, schemas)", "takes_all(plan, steps, schemas)"],
+    "estimate": ["size(running, stats)", "cost(running, stats)"],
+    "optimise": ["candidates(plan, schemas, stats)"],
+    "running": ["plan_of(running)", "simple(plan)"],
 }
 
 CLASSES = {
