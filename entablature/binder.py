@@ -180,12 +180,18 @@ def selects_of(rows, kinds):
 
 def bind(tree, schemas):
     """The plan of a query, and the names of its columns."""
+    plan, names, _ = bound_with(tree, schemas, {})
+    return plan, names
+
+
+def bound_with(tree, schemas, known):
+    """The plan of a query, the names and the kinds of its columns; known has queries that stand under a name."""
     work = Binder(schemas)
     try:
-        plan, names, _ = work.nested(Around({}, []), tree)
+        plan, names, kinds = work.nested(Around(known, []), tree)
     except (BadName, BadKind, TooMuch):
         # A name that no key covers stands ahead of any mistake that is found while it is still uncovered.
         if work.left:
             raise BadName(work.left[0][1]) from None
         raise
-    return plan, tuple(names)
+    return plan, tuple(names), tuple(kinds)

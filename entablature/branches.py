@@ -159,6 +159,31 @@ def with_args(expr, args, plans):
     return expr
 
 
+def gather_tables(plan, found):
+    """Puts the tables that a plan scans, in plans in expressions too, into a dict."""
+    if plan[0] == "scan":
+        found[plan[1]] = True
+    for expr in exprs_of(plan):
+        gather_expr_tables(expr, found)
+    for below in inputs_of(plan):
+        gather_tables(below, found)
+
+
+def gather_expr_tables(expr, found):
+    """The same for an expression."""
+    for arg in args_of(expr):
+        gather_expr_tables(arg, found)
+    for plan in plans_of(expr):
+        gather_tables(plan, found)
+
+
+def tables_of(plan):
+    """The tables that a plan scans, in plans in expressions too, in rising order."""
+    found = {}
+    gather_tables(plan, found)
+    return tuple(sorted(found))
+
+
 def expr_changed(expr, level, change):
     """An expression in which change(leaf, level) stands for each column and each outer column.
 

@@ -214,6 +214,9 @@ def read_mask(source, many):
     nulls = []
     while len(nulls) < many:
         octet = source.octet()
+        if octet == 0:
+            nulls.extend([False] * min(8, many - len(nulls)))
+            continue
         for _ in range(min(8, many - len(nulls))):
             nulls.append(octet % 2 == 1)
             octet = octet // 2
@@ -229,7 +232,9 @@ def read_column(data):
         raise BadForm()
     kind = KINDS[place]
     nulls = read_mask(source, read_count(source, MOST_VALUES))
-    told = read_values(source, kind, packing, len([empty for empty in nulls if not empty]))
+    told = read_values(source, kind, packing, len(nulls) - nulls.count(True))
+    if len(told) == len(nulls):
+        return kind, packing, told
     values = []
     at = 0
     for empty in nulls:

@@ -1,7 +1,7 @@
 """The steps that change a join."""
 
 from entablature.facts import eq_columns, has_key_in, safe
-from entablature.plan import moved
+from entablature.plan import moved, parts, used
 from entablature.where_steps import is_and, lies_in, shifted_by
 
 TURNED = {"inner": "inner", "left": "right", "right": "left"}
@@ -15,6 +15,28 @@ def columns(low, high):
 def faults_of(piece):
     """For each column of a pair of rows of a join whether it may be a fault."""
     return piece.inputs[0].faults() + piece.inputs[1].faults()
+
+
+def is_side(expr, low, high):
+    """Whether an expression uses columns from one place up to another one, and at least one."""
+    return len(used(expr)) > 0 and lies_in(expr, low, high)
+
+
+def equal_pairs(piece):
+    """What parts of a join's condition say to be equal: expressions of the left, and those of the right."""
+    many = piece.inputs[0].width
+    width = many + piece.inputs[1].width
+    places = [max(at - many, 0) for at in range(width)]
+    lefts = []
+    rights = []
+    for part in parts(piece.plan[2]):
+        if part[0] != "op" or part[1] != "eq":
+            continue
+        for left, right in (part[2], (part[2][1], part[2][0])):
+            if is_side(left, 0, many) and is_side(right, many, width):
+                lefts.append(left)
+                rights.append(moved(right, places))
+    return tuple(lefts), tuple(rights)
 
 
 def off(piece):

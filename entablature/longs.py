@@ -51,6 +51,9 @@ class Source:
 
     def long_number(self):
         """The next number written in sevens."""
+        if self.at < len(self.data) and self.data[self.at] < 128:
+            self.at += 1
+            return self.data[self.at - 1]
         n = 0
         weight = 1
         for _ in range(MOST_SEVENS):

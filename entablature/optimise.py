@@ -4,12 +4,10 @@ from entablature.estimate import cost
 from entablature.facts import safe
 from entablature.folding import first_folded
 from entablature.branches import exprs_of, with_parts
-from entablature.join_steps import faults_of
+from entablature.join_steps import equal_pairs, faults_of
 from entablature.piece import Piece, piece_of, piece_with
-from entablature.plan import moved, parts, used
 from entablature.rules import made, rules_for
 from entablature.running import simple
-from entablature.where_steps import lies_in
 
 MOST_STEPS = 64
 # A select is put into another one only if the plan grows by no more nodes than this.
@@ -89,28 +87,6 @@ def ways_from(top):
         if way.top.plan not in [other.top.plan for other in found]:
             found.append(way)
     return found
-
-
-def is_side(expr, low, high):
-    """Whether an expression uses columns from one place up to another one, and at least one."""
-    return len(used(expr)) > 0 and lies_in(expr, low, high)
-
-
-def equal_pairs(piece):
-    """What parts of a join's condition say to be equal: expressions of the left, and those of the right."""
-    many = piece.inputs[0].width
-    width = many + piece.inputs[1].width
-    places = [max(at - many, 0) for at in range(width)]
-    lefts = []
-    rights = []
-    for part in parts(piece.plan[2]):
-        if part[0] != "op" or part[1] != "eq":
-            continue
-        for left, right in (part[2], (part[2][1], part[2][0])):
-            if is_side(left, 0, many) and is_side(right, many, width):
-                lefts.append(left)
-                rights.append(moved(right, places))
-    return tuple(lefts), tuple(rights)
 
 
 def join_by(piece, word, inputs):

@@ -58,9 +58,12 @@ class Segment:
         """The rows that are there at a version."""
         return [self.lines[at] for at in range(len(self.lines)) if self.is_there(at, now)]
 
-    def shown(self, columns, now):
-        """The columns, the bounds and the places of the rows that are not there at a version."""
+    def laid(self, columns, now):
+        """The columns, the bounds and the places of the rows that are not there at a version.
+
+        The columns are those of the segment itself, and are only to be read.
+        """
         gone = [at for at in range(len(self.lines)) if not self.is_there(at, now)]
         if self.octets is None:
             self.octets, self.bounds = pack_rows(columns, self.lines, self.packing)
-        return tuple([list(column) for column in self.octets]), self.bounds, tuple(gone)
+        return self.octets, self.bounds, tuple(gone)

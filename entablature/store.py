@@ -24,8 +24,11 @@ def segment_rows(schema, segment):
     """The rows of a segment that are there."""
     columns, _, gone = segment
     values = [read_column(columns[at])[2] for at in range(len(schema[1]))]
+    rows = list(zip(*values))
+    if not gone:
+        return rows
     lost = {at: True for at in gone}
-    return [tuple([column[at] for column in values]) for at in range(len(values[0])) if at not in lost]
+    return [row for at, row in enumerate(rows) if at not in lost]
 
 
 class Store:
@@ -35,6 +38,8 @@ class Store:
         # The tables by their names, in the order in which they were created.
         self.tables = {}
         self.now = 0
+        # How often a table was created or dropped.
+        self.turns = 0
 
     def table(self, name):
         """The table of a name."""
@@ -57,11 +62,13 @@ class Store:
         if len(self.tables) >= MOST_TABLES:
             raise TooMuch()
         self.tables[schema[0]] = Table(schema, self.now)
+        self.turns += 1
 
     def drop(self, name):
         """Takes a table away with all its versions."""
         self.table(name)
         del self.tables[name]
+        self.turns += 1
 
     def schemas(self):
         """The schemas of the tables, in the order of creation."""
@@ -121,7 +128,18 @@ class Store:
 
     def segments(self, name, version):
         """The segments of a table at a version."""
-        return self.table_at(name, version).told_at(version)
+        told = []
+        for columns, bounds, gone in self.laid(name, version):
+            told.append((tuple([list(column) for column in columns]), bounds, gone))
+        return told
+
+    def laid(self, name, version):
+        """The same, but their columns are those of the store itself, and only to be read."""
+        return self.table_at(name, version).laid_at(version)
+
+    def stat(self, name):
+        """The number of rows of a table at the last version, and of different values in each column, nulls aside."""
+        return self.table(name).stat()
 
     def pack(self, name, packing):
         """Packs all segments of a table by a packing."""

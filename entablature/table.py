@@ -26,6 +26,7 @@ class Table:
         self.taken = [{} for _ in form[2]]
         self.size = 0
         self.lost = 0
+        self.counted = None
 
     def count_of(self, line):
         """How often a row is there at the last version."""
@@ -45,14 +46,23 @@ class Table:
             lines.extend(segment.there(now))
         return lines
 
-    def told_at(self, now):
-        """The segments of a version as they are told."""
+    def laid_at(self, now):
+        """The segments of a version; their columns are only to be read."""
         told = []
         for segment in self.segments_at(now):
-            columns, bounds, gone = segment.shown(self.form[1], now)
-            if len(gone) < len(segment.lines):
-                told.append((columns, bounds, gone))
+            laid = segment.laid(self.form[1], now)
+            if len(laid[2]) < len(segment.lines):
+                told.append(laid)
         return told
+
+    def stat(self):
+        """How many rows there are at the last version, and how many different values in each column, nulls aside."""
+        if self.counted is None:
+            columns = []
+            for at in range(len(self.form[1])):
+                columns.append(len({line[at]: True for line in self.spots if line[at] is not None}))
+            self.counted = (self.size, tuple(columns))
+        return self.counted
 
     def clashes(self, steps):
         """Whether two rows would agree in a key, if each row came so many times more as steps tells."""
@@ -72,6 +82,7 @@ class Table:
 
     def change(self, steps, now):
         """Makes the changes that lead to a version."""
+        self.counted = None
         for line, many in steps.items():
             for _ in range(-many):
                 self.lose(line, now)

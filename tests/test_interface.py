@@ -27,6 +27,12 @@ FUNCTIONS = {
     "estimate": ["size(running, stats)", "cost(running, stats)"],
     "optimise": ["candidates(plan, schemas, stats)"],
     "running": ["plan_of(running)", "simple(plan)"],
+    "run": ["run(running, tables, *, budget=1000, batch=64, workers=1, turns=())"],
+    "view": ["can_keep(plan, schemas)", "change_of(plan, schemas, tables, change)"],
+    "programs": ["check_program(program, database)", "check_values(program, values)", "key_column(schema)",
+                 "footprint(program, database)", "run_footprint(footprint, values)", "shape(program, database)"],
+    "runs": ["writes(footprint)", "is_stale(level, snapshot, footprint, commits)", "commit(run, commits)"],
+    "web": ["literals(shapes, kind)", "choices(shapes, place)"],
 }
 
 CLASSES = {
@@ -36,6 +42,18 @@ CLASSES = {
     "store": {"Store": ["create(self, schema)", "drop(self, name)", "schemas(self)", "schema(self, name)",
                         "version(self)", "commit(self, changes)", "rows(self, name, version)",
                         "segments(self, name, version)", "pack(self, name, packing)", "settle(self, name, size)"]},
+    "view": {"View": ["__init__(self, plan, schemas, tables)", "rows(self)", "change(self, change)", "looked(self)"]},
+    "database": {"Database": [
+        "__init__(self)", "create(self, schema)", "drop(self, name)", "commit(self, changes)", "schemas(self)",
+        "version(self)", "pack(self, name, packing)", "settle(self, name, size)", "schema(self, name)",
+        "bound(self, text)", "view(self, name, text)", "drop_view(self, name)", "views(self)", "kept(self, name)",
+        "query(self, text, *, version=None, choice=0, budget=1000, batch=64, workers=1, turns=())",
+        "explain(self, text, *, choice=0, ran=False)"]},
+    "seen": {"Seen": ["__init__(self, database, version)", "row(self, name, value)", "rows(self, name)",
+                      "write(self, name, value, row)", "changes(self)"]},
+    "runs": {"Run": ["__init__(self, database, program, values, level, snapshot)",
+                     "step(self, *, choice=0, budget=1000, batch=64, workers=1, turns=())", "is_over(self)",
+                     "finish(self)", "footprint(self)", "changes(self)"]},
 }
 
 
@@ -45,7 +63,7 @@ def tree_of(module):
 
 
 def head(function):
-    return f"{function.name}({', '.join([arg.arg for arg in function.args.args])})"
+    return f"{function.name}({ast.unparse(function.args)})"
 
 
 class Interface(unittest.TestCase):

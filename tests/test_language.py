@@ -8,7 +8,7 @@ import unittest
 TOP = os.path.dirname(os.path.dirname(os.path.abspath(__file__)))
 PACKAGE = os.path.join(TOP, "entablature")
 
-BUILTINS = set("""len range enumerate zip min max sum abs sorted reversed int str bool list tuple dict set frozenset
+BUILTINS = set("""super len range enumerate zip min max sum abs sorted reversed int str bool list tuple dict set frozenset
 isinstance ord repr any all divmod Exception ValueError TypeError KeyError IndexError LookupError
 ZeroDivisionError ArithmeticError OverflowError RuntimeError NotImplementedError AttributeError iter next type
 map""".split())
@@ -22,7 +22,7 @@ BAD_ATTRIBUTES = set("""items keys values pop update append clear extend insert 
 encode decode hex fromhex format format_map mro elements open input law version_info with_traceback add_note
 register""".split())
 
-BARRED = set("""attrgetter breakpoint builtins compile copyright credits delattr dir eval exec exit gc getattr globals
+BARRED = set("""super attrgetter breakpoint builtins compile copyright credits delattr dir eval exec exit gc getattr globals
 hasattr help id importlib license locals methodcaller os quit setattr super vars sys typing enum object format hash
 next map filter round print input open bytes chr callable complex memoryview property staticmethod classmethod slice
 vars iter pow bin hex oct""".split()) | BUILTINS - {"type"}
@@ -70,6 +70,12 @@ def imports(tree):
     return [node for node in tree.body if isinstance(node, ast.ImportFrom)]
 
 
+def is_library(node):
+    """Whether a line imports what the language lets a file take from the library."""
+    names = {alias.name for alias in node.names}
+    return isinstance(node, ast.ImportFrom) and node.module == "heapq" and names <= {"heappush", "heappop", "heapify"}
+
+
 def docstrings(tree):
     found = set()
     for node in ast.walk(tree):
@@ -87,6 +93,8 @@ def local_names(function):
             found.add(node.arg)
         if isinstance(node, ast.Name) and isinstance(node.ctx, (ast.Store, ast.Del)):
             found.add(node.id)
+        if isinstance(node, ast.FunctionDef) and node is not function:
+            found.add(node.name)
         if isinstance(node, ast.ExceptHandler) and node.name:
             found.add(node.name)
     return found
@@ -143,6 +151,7 @@ class Language(unittest.TestCase):
         for name, tree in TREES.items():
             nodes = [node for node in ast.walk(tree) if isinstance(node, (ast.Import, ast.ImportFrom))]
             self.assertEqual(nodes, imports(tree), name)
+            nodes = [node for node in nodes if not is_library(node)]
             behind = False
             for node in tree.body:
                 if isinstance(node, ast.ImportFrom):
@@ -158,7 +167,8 @@ class Language(unittest.TestCase):
                     self.assertIn(alias.name, defined(TREES[target]), (name, node.module))
 
     def test_no_circles_of_imports(self):
-        ways = {module_of(name): [node.module for node in imports(tree)] for name, tree in TREES.items()}
+        ways = {module_of(name): [node.module for node in imports(tree) if not is_library(node)]
+                for name, tree in TREES.items()}
         done = set()
 
         def go(module, path):
@@ -216,8 +226,13 @@ class Language(unittest.TestCase):
             for node in imports(tree):
                 types.update([alias.name for alias in node.names])
             outside |= types
+            nested = set()
             for node in ast.walk(tree):
-                if not isinstance(node, ast.FunctionDef):
+                if isinstance(node, ast.FunctionDef):
+                    nested.update([part for part in ast.walk(node) if part is not node])
+            for node in ast.walk(tree):
+                # What a nested function reads may stand in the function around it, in which it is looked at.
+                if not isinstance(node, ast.FunctionDef) or node in nested:
                     continue
                 inside = local_names(node)
                 self.assertEqual(sorted(inside & types), [], (name, node.name))
