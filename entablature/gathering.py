@@ -114,6 +114,18 @@ class Table(Grouping):
                 self.line(key, args)
 
 
+def answers(tallies):
+    """What each of some tallies tells."""
+    return {at: tally.told() for at, tally in tallies.items()}
+
+
+def together(first, second):
+    """The answers of both."""
+    told = dict(first)
+    told.update(second)
+    return told
+
+
 class Sorted(Grouping):
     """Groups out of lines in the order of their keys."""
 
@@ -147,25 +159,29 @@ class Sorted(Grouping):
         others = [at for at, agg in enumerate(self.aggs) if not agg[1]]
         told = self.groups_by(places[:1], others)
         for at in places[1:]:
-            self.meter.spooled += 2 * len(told)
             more = self.groups_by([at], [])
-            told = [(key, {**found, at: other[at]}) for (key, found), (_, other) in zip(told, more)]
+            told = [(one[0], together(one[1], other[1])) for one, other in zip(told, more)]
         for key, found in told:
             self.emit(key + tuple([found[at] for at in range(len(self.aggs))]))
 
     def groups_by(self, places, others):
-        """Pairs of a key and what some aggs tell, in the order of keys; at most one place has an agg with distinct."""
+        """Pairs of a key and what some aggs tell, in the order of keys; at most one place has an agg with distinct.
+
+        They are written to the spool, group by group.
+        """
         sorter = Sorter(self.room)
         for key, args in self.shelf.told():
             sorter.put((values_key(key), tuple([order_key(args[at]) for at in places])), (key, args))
-        found = []
-        before = None
-        tallies = {}
-        for _, (key, args) in sorter.told():
-            if key != before:
-                tallies = {at: Tally(self.aggs[at][0], self.aggs[at][1]) for at in places + others}
-                found.append((key, tallies))
-                before = key
-            for at, tally in tallies.items():
-                tally.add(args[at])
-        return [(key, {at: tally.told() for at, tally in tallies.items()}) for key, tallies in found]
+        written = []
+        pairs = sorter.told()
+        low = 0
+        while low < len(pairs):
+            key = pairs[low][1][0]
+            tallies = {at: Tally(self.aggs[at][0], self.aggs[at][1]) for at in places + others}
+            while low < len(pairs) and pairs[low][1][0] == key:
+                for at, tally in tallies.items():
+                    tally.add(pairs[low][1][1][at])
+                low += 1
+            written.append((key, answers(tallies)))
+            self.meter.spooled += 1
+        return written

@@ -115,7 +115,8 @@ class Window(Flow):
             part = pairs[low:high]
             sorter.let_go(len(part))
             self.meter.holds(self.room.used + len(part))
-            for (_, (row, number, told)), x in zip(part, self.functions[at].told(part)):
+            for pair, x in zip(part, self.functions[at].told(part)):
+                row, number, told = pair[1]
                 self.put(following, at + 1, (row, number, told + (x,)))
             low = high
         return following

@@ -122,7 +122,7 @@ class Making:
         if word == "op":
             return prepared_op(expr[1], [self.ready(arg) for arg in expr[2]])
         if word == "case":
-            pairs = [(self.ready(cond), self.ready(worth)) for cond, worth in expr[1]]
+            pairs = [(self.ready(pair[0]), self.ready(pair[1])) for pair in expr[1]]
             return prepared_case(pairs, self.ready(expr[2]))
         return self.nested(expr)
 

@@ -7,26 +7,10 @@ import plans
 from entablature.facts import facts, safe
 from entablature.meaning import bag, value_of
 from entablature.value import fault, is_fault
+from short import YES, col, eq, num, op
 
 SCHEMAS = plans.SCHEMAS
 T, U, V, W = ("scan", "t"), ("scan", "u"), ("scan", "v"), ("scan", "w")
-YES = ("const", "bool", True)
-
-
-def col(at):
-    return ("col", at)
-
-
-def num(x):
-    return ("const", "int", x)
-
-
-def op(name, *args):
-    return ("op", name, args)
-
-
-def eq(a, b):
-    return op("eq", col(a), col(b))
 
 
 DIVIDED = op("div", num(1), col(0))

@@ -12,22 +12,10 @@ from entablature.meaning import answer
 from entablature.optimise import candidates
 from entablature.plan import kinds, moved, parts
 from entablature.running import plan_of, simple
+from short import YES, col, eq, op
 
 SCHEMAS = plans.SCHEMAS
 T, U, V, W = ("scan", "t"), ("scan", "u"), ("scan", "v"), ("scan", "w")
-YES = ("const", "bool", True)
-
-
-def col(at):
-    return ("col", at)
-
-
-def op(name, *args):
-    return ("op", name, args)
-
-
-def eq(a, b):
-    return op("eq", col(a), col(b))
 
 
 def drawn_stats(seed):

@@ -7,6 +7,7 @@ from entablature.database import Database
 from entablature.errors import BadForm, BadKey, BadKind, BadName, BadText, NoSuch, TooMuch
 from entablature.programs import check_program, check_values, footprint, key_column, run_footprint, shape
 from entablature.web import choices, literals
+from short import col, num, op, text
 
 T = ("t", (("a", "int", False), ("b", "text", True), ("c", "bool", True)), ((0,),))
 U = ("u", (("x", "int", True), ("k", "text", False)), ((1,),))
@@ -23,22 +24,6 @@ def database():
         told.create(schema)
     told.view("seen", "SELECT t.a AS n FROM t, none WHERE t.a = none.a")
     return told
-
-
-def col(at):
-    return ("col", at)
-
-
-def num(x):
-    return ("const", "int", x)
-
-
-def text(x):
-    return ("const", "text", x)
-
-
-def op(name, *args):
-    return ("op", name, args)
 
 
 def program(*statements, params=("int", "text"), name="p"):

@@ -9,37 +9,17 @@ from entablature.meaning import answer
 from entablature.plan import kinds, moved
 from entablature.rules import found
 from entablature.running import simple
+from short import NO, NULL, YES, col, cols, eq, num, op
 
 SCHEMAS = plans.SCHEMAS
 T, U, V, W = ("scan", "t"), ("scan", "u"), ("scan", "v"), ("scan", "w")
-YES, NO, NULL = ("const", "bool", True), ("const", "bool", False), ("const", "bool", None)
 NAMES = ("split", "merge", "true", "select", "inline", "same", "down", "downright", "on", "off", "swap", "swapouter",
          "turn", "turnback", "strict", "unite", "once", "oncewhere", "groupwhere", "prune", "drop", "exists",
          "notexists", "within", "semi", "fold")
 
 
-def col(at):
-    return ("col", at)
-
-
-def cols(*ats):
-    return tuple([col(at) for at in ats])
-
-
-def num(x):
-    return ("const", "int", x)
-
-
-def op(name, *args):
-    return ("op", name, args)
-
-
 def both(a, b):
     return op("and", a, b)
-
-
-def eq(a, b):
-    return op("eq", col(a), col(b))
 
 
 def out(at, far=1):

@@ -13,28 +13,12 @@ from entablature.run import run
 from entablature.running import plan_of, simple
 from entablature.store import segmented
 from entablature.value import fault
+from short import YES, col, eq, num, op
 
 SCHEMAS = plans.SCHEMAS
 T, U, V, W = [("scan", name, None) for name in ("t", "u", "v", "w")]
-YES = ("const", "bool", True)
 FORM = ("x", (("a", "int", False), ("b", "int", True), ("c", "text", True)), ())
 X = ("scan", "x", None)
-
-
-def col(at):
-    return ("col", at)
-
-
-def num(x):
-    return ("const", "int", x)
-
-
-def op(name, *args):
-    return ("op", name, args)
-
-
-def eq(a, b):
-    return op("eq", col(a), col(b))
 
 
 def settings(rnd):

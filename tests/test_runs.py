@@ -12,28 +12,13 @@ from entablature.programs import check_program
 from entablature.runs import Run, commit, is_stale, writes
 from entablature.seen import Seen
 from entablature.value import fault
+from short import col, num, op, text
 
 T = ("t", (("a", "int", False), ("b", "text", True), ("n", "int", False)), ((0,),))
 U = ("u", (("x", "int", True), ("k", "text", False), ("f", "bool", False)), ((1,),))
 FREE = ("free", (("a", "int", True),), ())
 P0, P1 = ("param", 0), ("param", 1)
 BIG = 10 ** 18 - 1
-
-
-def col(at):
-    return ("col", at)
-
-
-def num(x):
-    return ("const", "int", x)
-
-
-def text(x):
-    return ("const", "text", x)
-
-
-def op(name, *args):
-    return ("op", name, args)
 
 
 def database():

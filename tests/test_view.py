@@ -10,27 +10,11 @@ from entablature.meaning import bag
 from entablature.plan import nodes
 from entablature.value import fault, sorted_rows
 from entablature.view import View, can_keep, change_of
+from short import YES, col, eq, num, op
 
 SCHEMAS = plans.SCHEMAS
 T, U, V, W = [("scan", name) for name in ("t", "u", "v", "w")]
-YES = ("const", "bool", True)
 BIG = 10 ** 18 - 1
-
-
-def col(at):
-    return ("col", at)
-
-
-def num(x):
-    return ("const", "int", x)
-
-
-def op(name, *args):
-    return ("op", name, args)
-
-
-def eq(a, b):
-    return op("eq", col(a), col(b))
 
 
 DIVIDED = op("div", num(1), col(0))
