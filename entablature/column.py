@@ -169,21 +169,18 @@ def read_count(source, many):
 def read_book(source, kind, many):
     """The values of a book."""
     book = [source.value(kind) for _ in range(read_count(source, many))]
-    values = []
-    for _ in range(many):
-        at = source.long_number()
-        if at >= len(book):
-            raise BadForm()
-        values.append(book[at])
-    return values
+    places = source.long_numbers(many)
+    if max(places, default=-1) >= len(book):
+        raise BadForm()
+    return [book[at] for at in places]
 
 
 def read_steps(source, many):
     """The values of steps."""
     values = []
     before = 0
-    for _ in range(many):
-        before = before + source.signed()
+    for step in source.all_signed(many):
+        before = before + step
         values.append(before)
     return values
 
@@ -193,13 +190,13 @@ def read_near(source, many):
     if many == 0:
         return []
     low = source.signed()
-    return [low + source.long_number() for _ in range(many)]
+    return [low + far for far in source.long_numbers(many)]
 
 
 def read_values(source, kind, packing, many):
     """The values that are not null."""
     if packing == PLAIN:
-        return [source.value(kind) for _ in range(many)]
+        return source.all_signed(many) if kind == "int" else [source.value(kind) for _ in range(many)]
     if packing == RUNS:
         return read_runs(source, kind, many)
     if packing == BOOK:

@@ -35,7 +35,7 @@ class Scanned:
         """The change of the rows by a change of tables; for the first one there were no rows."""
         told = change.get(self.table, {})
         self.looking.many += len(told)
-        return dict(told)
+        return {row: told[row] for row in told}
 
 
 class Written:

@@ -64,10 +64,22 @@ class Source:
             weight *= 128
         raise BadForm()
 
+    def long_numbers(self, many):
+        """So many next numbers written in sevens."""
+        end = self.at + many
+        told = self.data[self.at:end]
+        if len(told) == many and max(told, default=0) < 128:
+            self.at = end
+            return told
+        return [self.long_number() for _ in range(many)]
+
     def signed(self):
         """The next number that may be below 0."""
-        n = self.long_number()
-        return n // 2 if n % 2 == 0 else -(n + 1) // 2
+        return signed_of(self.long_number())
+
+    def all_signed(self, many):
+        """So many next numbers that may be below 0."""
+        return [signed_of(n) for n in self.long_numbers(many)]
 
     def text(self):
         """The next text; codes that no text has become signs that no text may hold."""
@@ -83,6 +95,11 @@ class Source:
         if kind == "int":
             return self.signed()
         return self.text()
+
+
+def signed_of(n):
+    """The number that may be below 0 that is written so."""
+    return n // 2 if n & 1 == 0 else -(n + 1) // 2
 
 
 # The signs from the blank to ~ by their codes, the one that no text holds left out.

@@ -7,11 +7,14 @@ from entablature.branches import exprs_of, with_parts
 from entablature.join_steps import equal_pairs, faults_of
 from entablature.piece import Piece, piece_of, piece_with
 from entablature.rules import made, rules_for
-from entablature.running import simple
+from entablature.running import over, simple
 
 MOST_STEPS = 64
 # A select is put into another one only if the plan grows by no more nodes than this.
 SPARE_NODES = 4
+# What costs more than so many times the best one is no candidate, unless it costs little.
+FAR = 4
+SMALL = 200000
 LEANER = (
     "fold", "true", "same", "inline", "select", "split", "down", "downright", "oncewhere", "groupwhere", "unite",
     "strict", "exists", "notexists", "within", "on", "once", "drop",
@@ -102,8 +105,6 @@ def join_by(piece, word, inputs):
 def running_by(piece, word):
     """The running plan of a piece whose joins go by a method where it can be used."""
     plan = piece.plan
-    if plan[0] == "scan":
-        return ("scan", plan[1], None)
     if plan[0] == "where" and plan[2][0] == "scan":
         return ("scan", plan[2][1], plan[1])
     inputs = [running_by(below, word) for below in piece.inputs]
@@ -111,7 +112,7 @@ def running_by(piece, word):
         return join_by(piece, word, inputs)
     if plan[0] == "group" and word == "merge":
         return ("sorted", plan[1], plan[2], inputs[0])
-    return with_parts(plan, exprs_of(plan), inputs)
+    return over(plan, inputs)
 
 
 def candidates(plan, schemas, stats):
@@ -124,4 +125,6 @@ def candidates(plan, schemas, stats):
             if running not in runnings:
                 runnings.append(running)
                 found.append((cost(running, stats), list(way.steps), running))
-    return [(steps, running) for _, steps, running in sorted(found, key=lambda told: told[0])]
+    found = sorted(found, key=lambda told: told[0])
+    most = max(FAR * found[0][0], SMALL)
+    return [(steps, running) for worth, steps, running in found if worth <= most]

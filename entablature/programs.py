@@ -105,8 +105,6 @@ def is_statement(x, params):
         return False
     if x[0] == "ask":
         return len(x) == 2
-    if len(x) < 3 or not is_name(x[1]):
-        return False
     if x[0] in ("read", "drop"):
         return len(x) == 3 and is_key(x[2], params)
     if x[0] == "set":

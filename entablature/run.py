@@ -8,7 +8,7 @@ from entablature.meaning import Ground, has_order
 from entablature.meter import Meter
 from entablature.ordering import Top, Window
 from entablature.prepared import Making
-from entablature.running import below, simple
+from entablature.running import below, fused
 from entablature.scanning import Scan
 from entablature.value import is_fault, sorted_rows
 
@@ -29,7 +29,7 @@ class Job:
 
     def rows_within(self, plan, around):
         """The rows of a plan in an expression, or the fault with which it fails."""
-        return Job(self.tables, self.meter, self.ground, around).rows(simple(plan))
+        return Job(self.tables, self.meter, self.ground, around).rows(fused(plan))
 
     def rows(self, running):
         """The rows of a running plan, or the fault with which it fails."""

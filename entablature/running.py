@@ -29,11 +29,22 @@ def plan_of(running):
     return with_parts(running, exprs_of(running), inputs)
 
 
-def simple(plan):
-    """The running plan by the plainest methods."""
-    inputs = [simple(part) for part in inputs_of(plan)]
+def fused(plan):
+    """The same as simple, but a where over a scan is done by the scan."""
+    if plan[0] == "where" and plan[2][0] == "scan":
+        return ("scan", plan[2][1], plan[1])
+    return over(plan, [fused(part) for part in inputs_of(plan)])
+
+
+def over(plan, inputs):
+    """The running plan of a plan over running plans for its inputs, by the plainest method."""
     if plan[0] == "scan":
         return ("scan", plan[1], None)
     if plan[0] == "join":
         return ("loop", plan[1], plan[2], inputs[0], inputs[1])
     return with_parts(plan, exprs_of(plan), inputs)
+
+
+def simple(plan):
+    """The running plan by the plainest methods."""
+    return over(plan, [simple(part) for part in inputs_of(plan)])

@@ -129,6 +129,7 @@ class Forms(unittest.TestCase):
             self.bad(program(("read", word, P0)), BadKey)
             self.bad(program(("put", word, (P0,))), BadKey)
         self.bad(program(("read", "seen", P0)), NoSuch)
+        self.bad(program(("read", "No table", P0)), NoSuch)
         self.good(program(("ask", "SELECT two.a FROM none, two, wide, flag")))
 
     def test_kinds_that_do_not_fit(self):
