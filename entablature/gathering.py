@@ -150,7 +150,7 @@ class Sorted(Grouping):
         for key, args in sorted(self.shelf.told(), key=lambda line: values_key(line[0])):
             groups.setdefault(key, []).append(args)
         for key, lines in groups.items():
-            told = [aggregated(agg[0], agg[1], [args[at] for args in lines]) for at, agg in enumerate(self.aggs)]
+            told = [aggregated(agg[0], agg[1], [one[at] for one in lines]) for at, agg in enumerate(self.aggs)]
             self.emit(key + tuple(told))
 
     def give_written(self):

@@ -283,7 +283,7 @@ class Grouped:
         self.looking = looking
         self.groups = {}
 
-    def add(self, key, row, many):
+    def count_row(self, key, row, many):
         """Counts a row of a group so many times more."""
         group = self.groups[key]
         group.many += many
@@ -304,11 +304,12 @@ class Grouped:
         touched = {(): True} if is_first and not self.keys_ready else {}
         for key in touched:
             self.groups[key] = Gathered(self.aggs)
-        for row, many in self.below.step(change, is_first).items():
+        rows = self.below.step(change, is_first)
+        for row, many in rows.items():
             key = tuple([expr(row) for expr in self.keys_ready])
             if key not in self.groups:
                 self.groups[key] = Gathered(self.aggs)
-            self.add(key, row, many)
+            self.count_row(key, row, many)
             touched[key] = True
         told = {}
         for key in touched:

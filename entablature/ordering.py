@@ -114,6 +114,8 @@ class Window(Flow):
                 high += 1
             part = pairs[low:high]
             sorter.let_go(len(part))
+            if self.room.used + len(part) > self.meter.budget:
+                self.room.spill()
             self.meter.holds(self.room.used + len(part))
             for pair, x in zip(part, self.functions[at].told(part)):
                 row, number, told = pair[1]

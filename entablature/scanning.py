@@ -25,18 +25,18 @@ class Worker:
 
     def __init__(self, schema):
         self.schema = schema
-        self.segments = []
+        self.left = []
         self.rows = []
         self.at = 0
 
     def is_over(self):
         """Whether there is nothing left to do."""
-        return self.at >= len(self.rows) and not self.segments
+        return self.at >= len(self.rows) and not self.left
 
     def next_rows(self, meter):
         """The next rows, as many as are handed on at once."""
         if self.at >= len(self.rows):
-            self.rows = segment_rows(self.schema, self.segments.pop())
+            self.rows = segment_rows(self.schema, self.left.pop())
             self.at = 0
             meter.unpacked += 1
         low = self.at
@@ -69,7 +69,7 @@ class Scan(Flow):
             if self.is_left_out(segment):
                 self.meter.skipped += 1
             else:
-                workers[many].segments.append(segment)
+                workers[many].left.append(segment)
                 many = many + 1 if many + 1 < len(workers) else 0
         while True:
             left = [worker for worker in workers if not worker.is_over()]

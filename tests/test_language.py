@@ -304,6 +304,27 @@ class Language(unittest.TestCase):
                     if word in ("zip", "enumerate", "reversed", "range", "items", "keys", "values"):
                         self.assertIn(id(node), allowed, (name, node.lineno))
 
+    def test_loops_do_not_modify_what_they_iterate_over(self):
+        changing = {"append", "clear", "extend", "insert", "pop", "remove", "reverse", "setdefault", "update"}
+        for name, tree in TREES.items():
+            for loop in ast.walk(tree):
+                if not isinstance(loop, ast.For):
+                    continue
+                # A call of len tells a number once, ahead of the loop.
+                aside = [part for call in ast.walk(loop.iter) if isinstance(call, ast.Call) and
+                         getattr(call.func, "id", "") == "len" for part in ast.walk(call)]
+                over = [node for node in ast.walk(loop.iter) if node not in aside]
+                names = {node.id for node in over if isinstance(node, ast.Name)} - {"self"}
+                names |= {"." + node.attr for node in over if isinstance(node, ast.Attribute)}
+                for node in [part for row in loop.body for part in ast.walk(row)]:
+                    held = None
+                    if isinstance(node, ast.Call) and getattr(node.func, "attr", "") in changing:
+                        held = node.func.value
+                    if isinstance(node, ast.Subscript) and isinstance(node.ctx, (ast.Store, ast.Del)):
+                        held = node.value
+                    told = "." + held.attr if isinstance(held, ast.Attribute) else getattr(held, "id", None)
+                    self.assertNotIn(told, names, (name, node.lineno if held is not None else 0))
+
 
 if __name__ == "__main__":
     unittest.main()

@@ -5,9 +5,11 @@ import unittest
 
 import plans
 from entablature.checker import takes, takes_all
+from entablature.errors import TooMuch
 from entablature.meaning import answer
-from entablature.plan import kinds, moved
-from entablature.rules import found
+from entablature.piece import piece_of, plan_with
+from entablature.plan import kinds, nodes
+from entablature.rules import fits, found, rules_for
 from entablature.running import simple
 from short import NO, NULL, YES, col, cols, eq, num, op
 
@@ -514,6 +516,29 @@ class Checker(unittest.TestCase):
         kinds(deeper, SCHEMAS)
         for step in found(deeper, SCHEMAS):
             kinds(step[2], SCHEMAS)
+
+    def test_steps_at_the_bounds_are_told_just_if_they_lead_to_right_plans(self):
+        refused = 0
+        for seed in range(120):
+            plan = plans.bait(seed)
+            forms = {schema[0]: schema for schema in SCHEMAS}
+            while piece_of(plan, forms).deep < 58 + seed % 3:
+                plan = ("distinct", plan)
+            self.assertEqual(piece_of(plan, forms).many, nodes(plan))
+            told = [(rule, path) for rule, path, _ in found(plan, SCHEMAS)]
+            chain = [piece_of(plan, forms)]
+            path = ()
+            while chain[-1].inputs:
+                for rule in rules_for(chain[-1]):
+                    for piece in fits(rule, chain[-1]):
+                        try:
+                            kinds(plan_with(chain, path, piece.plan), SCHEMAS)
+                            self.assertIn((rule, path), told)
+                        except TooMuch:
+                            refused += 1
+                chain.append(chain[-1].inputs[0])
+                path += (0,)
+        self.assertGreater(refused, 10)
 
     def test_what_is_told_is_new(self):
         plan = where(both(LOW, HIGH), T)

@@ -218,8 +218,12 @@ class Counts(unittest.TestCase):
     def test_a_window_holds_a_whole_part(self):
         counts = run(("window", (("rank", None, (), (), None),), X), table_x(100, 16), budget=4)[1]
         self.assertGreaterEqual(counts[3], 100)
-        counts = run(("window", (("rank", None, (col(0),), (), None),), X), table_x(100, 16), budget=4)[1]
-        self.assertLess(counts[3], 40)
+        funs = (("rank", None, (col(0),), (), None), ("place", None, (col(0), col(1)), (), None), ("lag", col(1), (col(2), col(0)), (), None))
+        for many in (0, 20, 100):
+            largest = max([0] + [[row[0] for row in rows_of_x(many)].count(x) for x in range(12)])
+            for budget in (4, 9, 50):
+                counts = run(("window", funs, X), table_x(many, 16), budget=budget)[1]
+                self.assertLessEqual(counts[3], max(budget + 1, largest + 1))
 
     def test_rows_that_are_handed_on(self):
         low = op("lt", col(0), num(6))
