@@ -11,7 +11,7 @@ NEVER_NULL = ("same", "isnull")
 NUMBERED = ("place", "rank", "dense", "rows")
 
 
-class Known:
+class Facts:
     """The facts of a plan: of each column whether it may be null or a fault, whether it may fail, and its keys."""
 
     def __init__(self, nulls, faults, fails, unique):
@@ -186,10 +186,10 @@ class Knowing:
         word = plan[0]
         if word == "scan":
             form = self.forms[plan[1]]
-            return Known(tuple([column[2] for column in form[1]]), (False,) * len(form[1]), False, list(form[2]))
+            return Facts(tuple([column[2] for column in form[1]]), (False,) * len(form[1]), False, list(form[2]))
         if word == "rows":
             nulls = [any([row[at] is None for row in plan[2]]) for at in range(len(plan[1]))]
-            return Known(tuple(nulls), (False,) * len(nulls), False, [])
+            return Facts(tuple(nulls), (False,) * len(nulls), False, [])
         if word == "join":
             return self.join(plan, below[0], below[1], around)
         if word in ("union", "except", "meet"):
@@ -197,11 +197,11 @@ class Knowing:
         known = below[0]
         if word == "where":
             fails = known.fails or self.expr(plan[1], [known.row()] + around)[1]
-            return Known(known.nulls, known.faults, fails, known.unique)
+            return Facts(known.nulls, known.faults, fails, known.unique)
         if word == "select":
             told = [self.expr(expr, [known.row()] + around) for expr in plan[1]]
             nulls = tuple([one[0] for one in told])
-            return Known(nulls, tuple([one[1] for one in told]), known.fails, select_keys(plan[1], known.unique))
+            return Facts(nulls, tuple([one[1] for one in told]), known.fails, select_keys(plan[1], known.unique))
         if word == "group":
             return self.group(plan, known, around)
         return self.whole(plan, known, around)
@@ -213,16 +213,16 @@ class Knowing:
         row = (known.nulls, none)
         if plan[0] == "distinct":
             unique = each_once([tuple(range(len(none)))] + known.unique)
-            return Known(known.nulls, none, fails, unique)
+            return Facts(known.nulls, none, fails, unique)
         if plan[0] == "top":
             fails = fails or self.faulty([item[0] for item in plan[1]], [row] + around)
-            return Known(known.nulls, none, fails, known.unique)
+            return Facts(known.nulls, none, fails, known.unique)
         told = []
         for name, arg, partition, order, _ in plan[1]:
             fails = fails or self.faulty(list(partition) + [item[0] for item in order], [row] + around)
             told.append(self.agg_facts(name, arg, [row] + around))
         nulls = known.nulls + tuple([one[0] for one in told])
-        return Known(nulls, none + tuple([one[1] for one in told]), fails, known.unique)
+        return Facts(nulls, none + tuple([one[1] for one in told]), fails, known.unique)
 
     def agg_facts(self, name, arg, around):
         """Whether what an agg or a function of a window tells may be null, and whether it may be a fault."""
@@ -238,7 +238,7 @@ class Knowing:
         nulls = tuple([one[0] for one in lines + told])
         faults = (False,) * len(lines) + tuple([one[1] for one in told])
         fails = known.fails or any([line[1] for line in lines])
-        return Known(nulls, faults, fails, [tuple(range(len(lines)))])
+        return Facts(nulls, faults, fails, [tuple(range(len(lines)))])
 
     def join(self, plan, left, right, around):
         """The facts of a join."""
@@ -247,13 +247,13 @@ class Knowing:
         fails = left.fails or right.fails or self.expr(cond, [row] + around)[1]
         unique = join_keys(side, cond, left, right)
         if side in ("semi", "anti"):
-            return Known(left.nulls, left.faults, fails, unique)
+            return Facts(left.nulls, left.faults, fails, unique)
         first, second = left.nulls, right.nulls
         if side in ("right", "full"):
             first = (True,) * len(first)
         if side in ("left", "full"):
             second = (True,) * len(second)
-        return Known(first + second, row[1], fails, unique)
+        return Facts(first + second, row[1], fails, unique)
 
     def both(self, word, left, right):
         """The facts of a union, an except or a meet."""
@@ -261,9 +261,9 @@ class Knowing:
         if word == "union":
             nulls = [one or other for one, other in zip(left.nulls, right.nulls)]
             faults = [one or other for one, other in zip(left.faults, right.faults)]
-            return Known(tuple(nulls), tuple(faults), fails, [])
+            return Facts(tuple(nulls), tuple(faults), fails, [])
         fails = fails or any(left.faults) or any(right.faults)
-        return Known(left.nulls, (False,) * len(left.nulls), fails, left.unique)
+        return Facts(left.nulls, (False,) * len(left.nulls), fails, left.unique)
 
 
 def facts(plan, schemas):

@@ -69,7 +69,7 @@ class Flow:
             below.go()
 
 
-class Listed(Flow):
+class ListedRows(Flow):
     """The rows that stand in the plan."""
 
     def __init__(self, job, running):
@@ -83,7 +83,7 @@ class Listed(Flow):
         self.finish()
 
 
-class Where(Flow):
+class WhereFlow(Flow):
     """The rows for which a condition is True."""
 
     def __init__(self, job, running, inputs):
@@ -101,7 +101,7 @@ class Where(Flow):
                 self.note(told)
 
 
-class Select(Flow):
+class SelectFlow(Flow):
     """For each row the values of some expressions."""
 
     def __init__(self, job, running, inputs):
@@ -114,7 +114,7 @@ class Select(Flow):
             self.emit(tuple([expr(row) for expr in self.exprs]))
 
 
-class Union(Flow):
+class UnionFlow(Flow):
     """The rows of both inputs."""
 
     def take(self, rows, side):

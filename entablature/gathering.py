@@ -4,7 +4,7 @@ from entablature.aggregate import aggregated
 from entablature.flow import Flow
 from entablature.meter import Room, Shelf
 from entablature.sorter import Sorter, values_key
-from entablature.tally import Tally
+from entablature.tally import AggTally
 from entablature.value import order_key
 
 
@@ -73,7 +73,7 @@ class Grouping(Flow):
             self.line(key, tuple([None if expr is None else expr(row) for expr in self.args_ready]))
 
 
-class Table(Grouping):
+class GroupTable(Grouping):
     """A table of the groups; what there is no room for is written to the spool, and comes into a later table.
 
     Each value of an agg with distinct would have to be held, so this is for aggs without.
@@ -88,7 +88,7 @@ class Table(Grouping):
 
     def begin(self, key):
         """Begins a group."""
-        self.table[key] = [Tally(agg[0], False) for agg in self.aggs]
+        self.table[key] = [AggTally(agg[0], False) for agg in self.aggs]
         self.meter.holds(len(self.table))
 
     def line(self, key, args):
@@ -126,7 +126,7 @@ def together(first, second):
     return told
 
 
-class Sorted(Grouping):
+class GroupSorter(Grouping):
     """Groups out of lines in the order of their keys."""
 
     def __init__(self, job, running, inputs):
@@ -177,7 +177,7 @@ class Sorted(Grouping):
         low = 0
         while low < len(pairs):
             key = pairs[low][1][0]
-            tallies = {at: Tally(self.aggs[at][0], self.aggs[at][1]) for at in places + others}
+            tallies = {at: AggTally(self.aggs[at][0], self.aggs[at][1]) for at in places + others}
             while low < len(pairs) and pairs[low][1][0] == key:
                 for at, tally in tallies.items():
                     tally.add(pairs[low][1][1][at])

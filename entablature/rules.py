@@ -47,7 +47,7 @@ def fold(piece):
     return [Piece(plan, piece.inputs, piece.forms, piece.gauge) for plan in found]
 
 
-def fits(rule, piece):
+def instances(rule, piece):
     """What a rule makes of a piece, in each way in which it fits, whatever the bounds are."""
     if rule not in rules_for(piece):
         return []
@@ -64,7 +64,7 @@ def fits(rule, piece):
 
 def made(rule, chain):
     """What a rule makes of the last piece of a chain, where that keeps the first one within the bounds."""
-    return [piece for piece in fits(rule, chain[-1]) if can_replace(chain, piece)]
+    return [piece for piece in instances(rule, chain[-1]) if can_replace(chain, piece)]
 
 
 def found(plan, schemas):

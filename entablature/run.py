@@ -1,8 +1,8 @@
 """Runs a running plan over segments, with few rows held at one time."""
 
 from entablature.branches import width_over
-from entablature.flow import Listed, Select, Sink, Union, Where, faults_in
-from entablature.gathering import Counted, Sorted, Table
+from entablature.flow import ListedRows, SelectFlow, Sink, UnionFlow, WhereFlow, faults_in
+from entablature.gathering import Counted, GroupSorter, GroupTable
 from entablature.joining import Hash, Loop, Merge
 from entablature.meaning import Ground, has_order
 from entablature.meter import Meter
@@ -58,13 +58,13 @@ class Job:
         if word == "scan":
             return Scan(self, running)
         if word == "rows":
-            return Listed(self, running)
+            return ListedRows(self, running)
         if word == "where":
-            return Where(self, running, inputs)
+            return WhereFlow(self, running, inputs)
         if word == "select":
-            return Select(self, running, inputs)
+            return SelectFlow(self, running, inputs)
         if word == "union":
-            return Union(self, inputs)
+            return UnionFlow(self, inputs)
         if word == "loop":
             return Loop(self, running, inputs)
         if word == "hash":
@@ -72,9 +72,9 @@ class Job:
         if word == "merge":
             return Merge(self, running, inputs)
         if word == "group" and not any([agg[1] for agg in running[2]]):
-            return Table(self, running, inputs)
+            return GroupTable(self, running, inputs)
         if word in ("group", "sorted"):
-            return Sorted(self, running, inputs)
+            return GroupSorter(self, running, inputs)
         if word == "window":
             return Window(self, running, inputs)
         return Top(self, running, inputs) if word == "top" else Counted(self, running, inputs)

@@ -4,7 +4,7 @@ from entablature.operators import sized
 from entablature.value import least_fault
 
 
-class Tally:
+class AggTally:
     """What is known of the values so far; with distinct, equal values come one behind the other."""
 
     def __init__(self, name, distinct):

@@ -9,7 +9,7 @@ from entablature.errors import TooMuch
 from entablature.meaning import answer
 from entablature.piece import piece_of, plan_with
 from entablature.plan import kinds, nodes
-from entablature.rules import fits, found, rules_for
+from entablature.rules import found, instances, rules_for
 from entablature.running import simple
 from short import NO, NULL, YES, col, cols, eq, num, op
 
@@ -530,7 +530,7 @@ class Checker(unittest.TestCase):
             path = ()
             while chain[-1].inputs:
                 for rule in rules_for(chain[-1]):
-                    for piece in fits(rule, chain[-1]):
+                    for piece in instances(rule, chain[-1]):
                         try:
                             kinds(plan_with(chain, path, piece.plan), SCHEMAS)
                             self.assertIn((rule, path), told)
