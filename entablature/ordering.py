@@ -76,7 +76,7 @@ class Window(Flow):
         self.functions = [Function(job, fun) for fun in running[1]]
         self.room = Room(job.meter)
         self.sorter = Sorter(self.room)
-        self.many = 0
+        self.number = 0
 
     def take(self, rows, side):
         """Takes a batch."""
@@ -86,9 +86,9 @@ class Window(Flow):
                 part, order = function.worked(row)
                 self.note_all(part)
                 self.note_all(order)
-            self.many += 1
+            self.number += 1
             if self.fault is None:
-                self.put(self.sorter, 0, (row, self.many, ()))
+                self.put(self.sorter, 0, (row, self.number, ()))
 
     def put(self, sorter, at, line):
         """Puts a line into a sorter by the order of the function at a place."""
