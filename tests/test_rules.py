@@ -4,6 +4,7 @@ import time
 import unittest
 
 import plans
+import second
 from entablature.checker import takes, takes_all
 from entablature.errors import TooMuch
 from entablature.meaning import answer
@@ -424,6 +425,14 @@ class Folding(Steps):
         self.assertEqual(sorted(self.steps("fold", told), key=repr), sorted(
             [select([col(0), num(-1), op("neg", num(2))], T), select([col(0), op("neg", num(1)), num(-2)], T)], key=repr))
         self.none("fold", join("inner", inner, T, U), ("group", (op("neg", num(1)),), (), T))
+
+
+class Found(unittest.TestCase):
+
+    def test_found_tells_just_the_steps_of_a_second_reading(self):
+        for seed in range(1600):
+            plan = plans.plan(seed) if seed % 3 == 0 else plans.bait(seed)
+            self.assertEqual(set(found(plan, SCHEMAS)), second.all_steps(plan, SCHEMAS), (seed, plan))
 
 
 class Checker(unittest.TestCase):
