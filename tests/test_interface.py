@@ -33,6 +33,13 @@ FUNCTIONS = {
                  "footprint(program, database)", "run_footprint(footprint, values)", "shape(program, database)"],
     "runs": ["writes(footprint)", "is_stale(level, snapshot, footprint, commits)", "commit(run, commits)"],
     "web": ["literals(shapes, kind)", "choices(shapes, place)"],
+    "splits": ["split(shapes, place, strong)", "closing(shapes, place, strong, most)", "needed(shapes, strong)",
+               "is_kept(shapes, strict, strong)"],
+    "webjudge": ["judge_split(shapes, place, strong, told)", "judge_closing(shapes, place, strong, most, told)"],
+    "played": ["runs_of(shapes, place, split)", "sessions_of(split)", "steps_of(split)"],
+    "octets": ["written(value)", "read(octets)"],
+    "log": ["check_number(octets)", "entry(kind, payload)", "entry_at(octets, at)", "recovered(desk, octets)"],
+    "copies": ["only_reads(program)"],
 }
 
 CLASSES = {
@@ -54,6 +61,8 @@ CLASSES = {
     "runs": {"Run": ["__init__(self, database, program, values, level, snapshot)",
                      "step(self, *, choice=0, budget=1000, batch=64, workers=1, turns=())", "is_over(self)",
                      "finish(self)", "footprint(self)", "changes(self)"]},
+    "copies": {"Session": ["__init__(self)", "check(self, version)", "saw(self, version)"],
+               "Copy": ["__init__(self, desk)", "take(self, octets)", "version(self)", "run(self, name, values, session=None)"]},
 }
 
 
