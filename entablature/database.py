@@ -6,7 +6,8 @@ from entablature.errors import BadKey, BadKind, BadName, NoSuch, TooMuch
 from entablature.estimate import cost
 from entablature.grammar import parse
 from entablature.names import is_name
-from entablature.optimise import candidates
+from entablature.optimise import candidates, running_by
+from entablature.piece import piece_of
 from entablature.run import run
 from entablature.schema import check_schema
 from entablature.sources import Known
@@ -17,6 +18,8 @@ from entablature.view import View, kept_piece
 MOST_VIEWS = 10
 # So many queries are kept bound, so that one that is asked again need not be read again.
 MOST_KEPT = 300
+# Tables may grow or shrink by so many rows before runs look for other candidates.
+SPARE_ROWS = 20
 
 
 class Named:
@@ -27,6 +30,8 @@ class Named:
         self.plan, self.names, self.kinds = bound
         self.tables = tables_of(self.plan)
         self.keeping = View(self.plan, schemas, tables)
+        # By which running plan its rows are worked out anew, once somebody asks.
+        self.running = None
 
     def known(self):
         """What stands for the name of the view in queries."""
@@ -43,6 +48,8 @@ class Asked:
         # The version for which these are the candidates.
         self.at = None
         self.ways = []
+        # How many rows the tables had when runs asked for candidates.
+        self.rows = 0
 
 
 class Database:
@@ -134,6 +141,13 @@ class Database:
             raise NoSuch()
         return self.named[name]
 
+    def view_running(self, name):
+        """A running plan that works out the plan of a view itself, so that faults stand where they do there."""
+        named = self.view_of(name)
+        if named.running is None:
+            named.running = running_by(piece_of(named.plan, {schema[0]: schema for schema in self.schemas()}), "hash")
+        return named.running
+
     def views(self):
         """The names of the views, in the order of creation."""
         return tuple(self.named)
@@ -183,14 +197,28 @@ class Database:
         running = self.candidate(asked, choice)[1]
         return asked.names, run(running, tables, budget=budget, batch=batch, workers=workers, turns=turns)[0]
 
-    def told(self, text, seen, choice, settings):
-        """What an ask tells of a query on the tables that a run sees: its rows as a tuple, or a fault."""
-        asked = self.asked_of(text)
+    def way(self, asked, choice):
+        """The running plan of one of the candidates, which may be those for tables that had about so many rows."""
+        rows = sum([self.store.size_of(name) for name in asked.tables])
+        if asked.at is None or not asked.rows <= 2 * rows + SPARE_ROWS or not rows <= 2 * asked.rows + SPARE_ROWS:
+            asked.rows = rows
+            return self.candidate(asked, choice)[1]
+        return asked.ways[int(choice) % len(asked.ways)][1]
+
+    def told_on(self, text, tables, choice, settings):
+        """What an ask tells of a query on segments of tables: its rows as a tuple, or a fault."""
+        running = self.way(self.asked_of(text), choice)
         budget, batch, workers, turns = settings
-        running = self.candidate(asked, choice)[1]
-        tables = seen.segments(asked.tables)
         answer = run(running, tables, budget=budget, batch=batch, workers=workers, turns=turns)[0]
         return answer if is_fault(answer) else tuple(answer)
+
+    def told(self, text, seen, choice, settings):
+        """The same on the tables that a run sees."""
+        return self.told_on(text, seen.segments(self.asked_of(text).tables), choice, settings)
+
+    def leap(self, version):
+        """Goes on to a version up to which nothing changes."""
+        self.store.leap(version)
 
     def explain(self, text, *, choice=0, ran=False):
         """The steps of a candidate for a query, its running plan and its cost; the counts, if it is run."""

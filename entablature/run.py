@@ -12,6 +12,10 @@ from entablature.running import below, fused
 from entablature.scanning import Scan
 from entablature.value import is_fault, sorted_rows
 
+# What a running plan may hold, and hand on at once, where nobody asks for less.
+MANY_ROWS = 100000
+MANY_AT_ONCE = 256
+
 
 class Job:
     """One run of a plan, or of a plan in an expression for certain rows around it."""
@@ -78,6 +82,12 @@ class Job:
         if word == "window":
             return Window(self, running, inputs)
         return Top(self, running, inputs) if word == "top" else Counted(self, running, inputs)
+
+
+def bag_of(running, tables):
+    """The rows of a running plan that never fails, in any order; faults in them stand as values."""
+    meter = Meter(MANY_ROWS, MANY_AT_ONCE, 1, ())
+    return Job(tables, meter, Ground({}), []).rows(running)
 
 
 def run(running, tables, *, budget=1000, batch=64, workers=1, turns=()):

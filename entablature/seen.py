@@ -46,6 +46,10 @@ class Seen:
         self.keyed(name)
         self.written.setdefault(name, {})[value] = None if row is None else tuple(row)
 
+    def ask(self, text, choice, settings):
+        """What an ask tells of a query."""
+        return self.database.told(text, self, choice, settings)
+
     def change_of(self, name):
         """The rows of a table that go, and those that come, by their keys."""
         before = self.keyed(name)

@@ -137,6 +137,18 @@ class Store:
         """The same, but their columns are those of the store itself, and only to be read."""
         return self.table_at(name, version).laid_at(version)
 
+    def size_of(self, name):
+        """The number of rows of a table at the last version."""
+        return self.table(name).size
+
+    def has_version(self, name, version):
+        """Whether there is such a version of a table that is there."""
+        return self.table(name).start <= version <= self.now
+
+    def leap(self, version):
+        """Goes on to a version up to which nothing changes."""
+        self.now = version
+
     def stat(self, name):
         """The number of rows of a table at the last version, and of different values in each column, nulls aside."""
         return self.table(name).stat()

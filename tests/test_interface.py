@@ -40,6 +40,19 @@ FUNCTIONS = {
     "octets": ["written(value)", "read(octets)"],
     "log": ["check_number(octets)", "entry(kind, payload)", "entry_at(octets, at)", "recovered(desk, octets)"],
     "copies": ["only_reads(program)"],
+    "history": ["graph(history, footprints, sessions=())", "first_order(history, footprints, sessions=())",
+                "first_ring(history, footprints, sessions=())", "is_order(history, footprints, order, sessions=())",
+                "is_ring(history, footprints, ring, sessions=())", "keeps(history, session)", "split_in(history, footprints, ring)"],
+    "serial": ["plain_table(schema, rows)", "plain_tables(database, version)", "asked(database, text, tables)",
+               "plain_run(database, program, values, tables)", "behind(tables, writes)",
+               "serially(database, programs, history, order, tables)"],
+    "inview": ["rows_in(database, name, seen)", "rows_back(database, name, seen)"],
+    "right": ["check_right(right, database)", "right_of(right, name)", "is_seen(what, row)", "seen_rows(right, name, rows)",
+              "joined(a, b)", "met(a, b)", "is_within(a, b, database, version)", "is_enough(right, footprint)",
+              "seen_change(right, change)"],
+    "watch": ["watch(database, programs, footprints, version, tables, history, last)"],
+    "again": ["rounds(database, commits, tries)", "one_round(database, commits, tries)", "holds(database, text, tables)",
+              "keeps_alone(database, program, values, text, tables)", "broken(database, text, first)"],
 }
 
 CLASSES = {
@@ -61,6 +74,15 @@ CLASSES = {
     "runs": {"Run": ["__init__(self, database, program, values, level, snapshot)",
                      "step(self, *, choice=0, budget=1000, batch=64, workers=1, turns=())", "is_over(self)",
                      "finish(self)", "footprint(self)", "changes(self)"]},
+    "desk": {"Desk": [
+        "__init__(self)", "create(self, schema)", "view(self, name, text)", "fill(self, changes)", "add(self, program)",
+        "allot(self, levels)", "program(self, name)", "level(self, name)", "allotment(self)", "schemas(self)", "version(self)",
+        "views(self)", "first(self)", "begin(self, name, values, *, snapshot=None)",
+        "step(self, number, *, choice=0, budget=1000, batch=64, workers=1, turns=())", "leave(self, number)",
+        "commit(self, number)", "run(self, name, values, *, snapshot=None)", "history(self)", "give(self, user, right)",
+        "look(self, user, name, values, *, snapshot=None)", "log(self)", "image(self)", "redo(self, kind, payload)"]},
+    "right": {"SeenBy": ["__init__(self, database, version, right)", "row(self, name, value)", "rows(self, name)"],
+              "SeenView": ["__init__(self, database, name, right)", "rows(self)", "change(self, change)"]},
     "copies": {"Session": ["__init__(self)", "check(self, version)", "saw(self, version)"],
                "Copy": ["__init__(self, desk)", "take(self, octets)", "version(self)", "run(self, name, values, session=None)"]},
 }
