@@ -3,10 +3,8 @@
 from entablature.branches import args_of, inputs_of
 from entablature.operators import is_strict, may_fault
 from entablature.plan import parts
+from entablature.unique import ChosenKeys, JoinedKeys, OwnKeys
 
-# So many keys of a plan are told one by one; beyond that only those that hold no other one, and not all of them.
-MANY_KEYS = 1000
-MOST_KEYS = 2000
 NEVER_NULL = ("same", "isnull")
 NUMBERED = ("place", "rank", "dense", "rows")
 
@@ -53,61 +51,20 @@ def eq_columns(cond, many):
 
 def has_key_in(unique, columns):
     """Whether a key lies within some columns."""
-    for key in unique:
-        if all([at in columns for at in key]):
-            return True
-    return False
-
-
-def fewest(unique):
-    """The keys that hold no other one of the keys."""
-    found = []
-    masks = []
-    for key in sorted(unique, key=len):
-        mask = sum([1 << at for at in key])
-        if not any([mask & other == other for other in masks]):
-            found.append(key)
-            masks.append(mask)
-    return found
-
-
-def each_once(unique):
-    """The keys without those that stand there a second time."""
-    return list({key: True for key in unique})
-
-
-def shifted(key, many):
-    """A key of the right side among the columns of both sides."""
-    return tuple([at + many for at in key])
-
-
-def crossed(left, right, many):
-    """Each key of the left side put together with each of the right side."""
-    if len(left) * len(right) > MANY_KEYS:
-        left = fewest(left)
-        right = fewest(right)
-    found = []
-    for key in left:
-        for other in right:
-            if len(found) < MOST_KEYS:
-                found.append(key + shifted(other, many))
-    return found
+    return unique.holds({at: True for at in columns})
 
 
 def join_keys(side, cond, left, right):
     """The keys of a join."""
     if side in ("semi", "anti"):
-        return list(left.unique)
+        return left.unique
     if side not in ("inner", "left"):
-        return []
+        return OwnKeys([])
     many = len(left.nulls)
     pairs = eq_columns(cond, many)
-    found = crossed(left.unique, right.unique, many)
-    if has_key_in(right.unique, [pair[1] for pair in pairs]):
-        found.extend(left.unique)
-    if side == "inner" and has_key_in(left.unique, [pair[0] for pair in pairs]):
-        found.extend([shifted(key, many) for key in right.unique])
-    return each_once(found)
+    is_left_key = has_key_in(right.unique, [pair[1] for pair in pairs])
+    is_right_key = side == "inner" and has_key_in(left.unique, [pair[0] for pair in pairs])
+    return JoinedKeys(left.unique, right.unique, many, is_left_key, is_right_key)
 
 
 def select_keys(exprs, unique):
@@ -116,11 +73,7 @@ def select_keys(exprs, unique):
     for at, expr in enumerate(exprs):
         if expr[0] == "col" and expr[1] not in places:
             places[expr[1]] = at
-    found = []
-    for key in unique:
-        if all([at in places for at in key]):
-            found.append(tuple(sorted([places[at] for at in key])))
-    return each_once(found)
+    return ChosenKeys(unique, places)
 
 
 def op_facts(name, args):
@@ -171,7 +124,7 @@ class Knowing:
             return False, known.fails
         if expr[0] == "in":
             return True, known.fails or known.faults[0] or self.expr(expr[1], around)[1]
-        return True, known.fails or known.faults[0] or () not in known.unique
+        return True, known.fails or known.faults[0] or not known.unique.holds({})
 
     def faulty(self, exprs, around):
         """Whether one of several expressions may be a fault."""
@@ -186,10 +139,11 @@ class Knowing:
         word = plan[0]
         if word == "scan":
             form = self.forms[plan[1]]
-            return Facts(tuple([column[2] for column in form[1]]), (False,) * len(form[1]), False, list(form[2]))
+            nulls = tuple([column[2] for column in form[1]])
+            return Facts(nulls, (False,) * len(nulls), False, OwnKeys(list(form[2])))
         if word == "rows":
             nulls = [any([row[at] is None for row in plan[2]]) for at in range(len(plan[1]))]
-            return Facts(tuple(nulls), (False,) * len(nulls), False, [])
+            return Facts(tuple(nulls), (False,) * len(nulls), False, OwnKeys([]))
         if word == "join":
             return self.join(plan, below[0], below[1], around)
         if word in ("union", "except", "meet"):
@@ -212,8 +166,7 @@ class Knowing:
         none = (False,) * len(known.nulls)
         row = (known.nulls, none)
         if plan[0] == "distinct":
-            unique = each_once([tuple(range(len(none)))] + known.unique)
-            return Facts(known.nulls, none, fails, unique)
+            return Facts(known.nulls, none, fails, OwnKeys([tuple(range(len(none)))], known.unique))
         if plan[0] == "top":
             fails = fails or self.faulty([item[0] for item in plan[1]], [row] + around)
             return Facts(known.nulls, none, fails, known.unique)
@@ -238,7 +191,7 @@ class Knowing:
         nulls = tuple([one[0] for one in lines + told])
         faults = (False,) * len(lines) + tuple([one[1] for one in told])
         fails = known.fails or any([line[1] for line in lines])
-        return Facts(nulls, faults, fails, [tuple(range(len(lines)))])
+        return Facts(nulls, faults, fails, OwnKeys([tuple(range(len(lines)))]))
 
     def join(self, plan, left, right, around):
         """The facts of a join."""
@@ -261,7 +214,7 @@ class Knowing:
         if word == "union":
             nulls = [one or other for one, other in zip(left.nulls, right.nulls)]
             faults = [one or other for one, other in zip(left.faults, right.faults)]
-            return Facts(tuple(nulls), tuple(faults), fails, [])
+            return Facts(tuple(nulls), tuple(faults), fails, OwnKeys([]))
         fails = fails or any(left.faults) or any(right.faults)
         return Facts(left.nulls, (False,) * len(left.nulls), fails, left.unique)
 
@@ -269,4 +222,4 @@ class Knowing:
 def facts(plan, schemas):
     """For each column whether it may be null and whether it may be a fault; whether the plan may fail; its keys."""
     known = Knowing({schema[0]: schema for schema in schemas}).plan(plan, [])
-    return known.nulls, known.faults, known.fails, list(known.unique)
+    return known.nulls, known.faults, known.fails, known.unique.listed()

@@ -29,7 +29,7 @@ def rules_for(piece):
 def once(piece):
     """distinct(P) becomes P, if no two of its rows are alike."""
     below = piece.inputs[0]
-    if not below.known().unique or below.has_order() or any(below.faults()):
+    if not below.known().unique.is_any() or below.has_order() or any(below.faults()):
         return []
     return [below]
 

@@ -4,8 +4,10 @@ import random
 import unittest
 
 import plans
+from entablature.checker import takes
 from entablature.facts import facts, safe
 from entablature.meaning import bag, value_of
+from entablature.rules import found
 from entablature.value import fault, is_fault
 from short import YES, col, eq, num, op
 
@@ -200,12 +202,49 @@ class Bold(unittest.TestCase):
         self.assertEqual(sorted(keys(("join", "left", eq(2, 0), U, W))), [(1, 2, 3), (1, 3, 4)])
         self.assertEqual(sorted(keys(("join", "left", op("or", eq(0, 4), eq(0, 4)), T, U))), [(0, 4)])
 
-    def test_many_keys_are_told_soon(self):
+    def test_all_keys_of_many_tables_are_told(self):
         schemas = (("x", (("a", "int", False), ("b", "int", False)), ((0,), (1,), (0, 1))),)
         plan = ("scan", "x")
-        for _ in range(11):
+        for many in range(1, 9):
+            told = facts(plan, schemas)[3]
+            self.assertEqual(len(told), 3 ** many)
+            self.assertEqual(len(set(told)), 3 ** many)
+            self.assertIn(tuple([2 * at + at % 2 for at in range(many)]), told)
+            self.assertTrue(all([key == tuple(sorted(key)) for key in told]))
             plan = ("join", "inner", YES, plan, ("scan", "x"))
-        self.assertLess(len(facts(plan, schemas)[3]), 5000)
+
+    def test_keys_of_joins_by_columns_that_agree(self):
+        schemas = (("x", (("a", "int", False), ("b", "int", False)), ((0,), (1,))),)
+        plan = ("scan", "x")
+        for many in range(2, 7):
+            plan = ("join", "inner", eq(0, 2 * many - 2), plan, ("scan", "x"))
+            # Of each table one of its keys, or none, but not of all none.
+            self.assertEqual(len(set(facts(plan, schemas)[3])), 3 ** many - 1)
+        unique = ("group", (), (("rows", False, None),), ("scan", "x"))
+        told = facts(("join", "inner", eq(0, 2), ("scan", "x"), unique), schemas)[3]
+        self.assertEqual(sorted(told), [(), (0,), (1,)])
+        self.assertEqual(len(facts(("distinct", ("distinct", ("scan", "x"))), schemas)[3]), 3)
+
+    def test_keys_of_selects_over_joins(self):
+        schemas = (("x", (("a", "int", False), ("b", "int", False)), ((0,), (1,))),)
+        both = ("join", "inner", YES, ("scan", "x"), ("scan", "x"))
+        self.assertEqual(sorted(facts(("select", (col(3), col(0), col(3)), both), schemas)[3]), [(0, 1)])
+        self.assertEqual(sorted(facts(("select", (col(3), col(2), col(1)), both), schemas)[3]), [(0, 2), (1, 2)])
+        self.assertEqual(facts(("select", (col(0), col(1)), both), schemas)[3], [])
+
+    def test_steps_over_very_many_keys_are_found_soon(self):
+        schemas = (("x", (("a", "int", False), ("b", "int", False)), ((0,), (1,), (0, 1))), ("p", (("a", "int", False),), ()))
+        plan = ("scan", "x")
+        for _ in range(10):
+            plan = ("join", "inner", YES, plan, ("scan", "x"))
+        self.assertIn(("once", (), plan), found(("distinct", plan), schemas))
+        for last, is_key in ((20, True), (21, True), (18, False)):
+            cond = YES
+            for at in [2 * many + many % 2 for many in range(10)] + [last]:
+                cond = op("and", cond, eq(0, 1 + at))
+            before = ("select", (col(0),), ("join", "left", cond, ("scan", "p"), plan))
+            step = ("drop", (), ("select", (col(0),), ("scan", "p")))
+            self.assertIs(takes(before, step, schemas), is_key)
 
 
 class Safe(unittest.TestCase):
