@@ -2,6 +2,7 @@
 
 from entablature.errors import BadKind, Behind, PeristyleError
 from entablature.log import end_of, entry_at
+from entablature.runs import Run
 
 WRITING = ("set", "put", "drop")
 
@@ -73,7 +74,7 @@ class Copy:
         version = self.version()
         if session is not None:
             session.check(version)
-        told = self.desk.told_at(name, values, version)
+        told = Run(self.desk.database, program, values, "loose", version).finish()
         if session is not None:
             session.saw(version)
         return (name, values, "loose", version, version, told)

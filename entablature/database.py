@@ -12,6 +12,7 @@ from entablature.run import run
 from entablature.schema import check_schema
 from entablature.sources import Known
 from entablature.store import Store
+from entablature.tighten import tightened
 from entablature.value import is_fault
 from entablature.view import View, kept_piece
 
@@ -142,10 +143,11 @@ class Database:
         return self.named[name]
 
     def view_running(self, name):
-        """A running plan that works out the plan of a view itself, so that faults stand where they do there."""
+        """A running plan whose rows are those of the plan of a view, with faults where they stand there."""
         named = self.view_of(name)
         if named.running is None:
-            named.running = running_by(piece_of(named.plan, {schema[0]: schema for schema in self.schemas()}), "hash")
+            piece = piece_of(named.plan, {schema[0]: schema for schema in self.schemas()})
+            named.running = running_by(tightened(piece), "hash")
         return named.running
 
     def views(self):

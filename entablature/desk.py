@@ -184,10 +184,6 @@ class Desk:
         """The runs that have committed, in their order."""
         return tuple(self.past)
 
-    def told_at(self, name, values, version):
-        """What a run from a version tells that is not committed."""
-        return Run(self.database, self.program(name), values, "loose", version).finish()
-
     def give(self, user, right):
         """Gives a user a right, in the place of an earlier one."""
         if not is_text(user) or not 1 <= len(user) <= MOST_USER:

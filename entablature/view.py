@@ -5,6 +5,7 @@ from entablature.errors import BadKind
 from entablature.facts import safe
 from entablature.keeping import Looking, add_to, part_of
 from entablature.piece import piece_of
+from entablature.tighten import tightened
 from entablature.value import sorted_rows
 
 WORDS = ("scan", "rows", "where", "select", "join", "union", "distinct", "except", "meet", "group")
@@ -69,7 +70,7 @@ class View:
         if piece is None:
             raise BadKind(-1)
         self.looking = Looking()
-        self.part = part_of(piece, self.looking)
+        self.part = part_of(tightened(piece), self.looking)
         self.counts = self.part.step({name: net([], rows) for name, rows in tables.items()}, True)
         self.looking.many = 0
 

@@ -231,8 +231,10 @@ class Drawn(unittest.TestCase):
         for seed in range(120):
             rnd = random.Random("deeds %d" % seed)
             pair = Pair(rnd)
-            for _ in range(25):
+            for at in range(25):
                 pair.deed(self)
+                if at % 4 == 0:
+                    pair.hold(self)
             pair.hold(self)
             refused += pair.refused
         self.assertGreater(refused, 60)

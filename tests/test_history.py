@@ -255,6 +255,13 @@ class Promises(unittest.TestCase):
                 self.assertTrue(all([keeps(history, session) for session in parts]))
                 if not strong:
                     self.assertIsNone(first_order(history, prints))
+                    ring = first_ring(history, prints)
+                    self.assertIsNotNone(split_in(history, prints, ring))
+                    programs = {name: one.program(name) for name in one.taken}
+                    start = one.first()
+                    last = plain_tables(one.database, one.version())
+                    due = ("ring", first_ring(one.history(), prints))
+                    self.assertEqual(watch(one.database, programs, prints, start, plain_tables(one.database, start), one.history(), last), due)
                     self.assertFalse(is_kept(shapes, tuple([at != place for at in range(len(shapes))]), False))
                 played += 1
         self.assertGreater(played, 100)

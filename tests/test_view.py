@@ -8,8 +8,9 @@ import plans
 from entablature.errors import BadKind
 from entablature.meaning import bag
 from entablature.plan import nodes
+from entablature.tighten import tightened
 from entablature.value import fault, sorted_rows
-from entablature.view import View, can_keep, change_of
+from entablature.view import View, can_keep, change_of, kept_piece
 from short import YES, col, eq, num, op
 
 SCHEMAS = plans.SCHEMAS
@@ -186,6 +187,41 @@ class Looked(unittest.TestCase):
         view.change({"t": ([rows[3]], [(3, "b", True)])})
         self.assertLessEqual(view.looked(), 4 * 2 * nodes(plan) ** 2)
         self.assertGreaterEqual(view.looked(), 2)
+
+
+class Tight(unittest.TestCase):
+
+    def test_the_same_rows(self):
+        turned = 0
+        for made in (plans.plan, plans.bait):
+            for seed in range(900):
+                plan = made(f"tight {seed}", nested=False, faulty=0.0)
+                piece = kept_piece(plan, SCHEMAS)
+                if piece is not None:
+                    told = tightened(piece).plan
+                    turned += told != plan
+                    tables = plans.tables(seed)
+                    self.assertEqual(sorted_rows(bag(told, [], tables)), sorted_rows(bag(plan, [], tables)))
+        self.assertGreater(turned, 150)
+
+    def test_conditions_go_to_their_sides(self):
+        cond = op("and", op("and", eq(0, 3), op("lt", col(0), num(2))), op("and", YES, op("isnull", col(5))))
+        plan = ("where", cond, ("join", "inner", YES, T, T))
+        left = ("where", op("lt", col(0), num(2)), T)
+        self.assertEqual(tightened(kept_piece(plan, SCHEMAS)).plan,
+                         ("join", "inner", eq(0, 3), left, ("where", op("isnull", col(2)), T)))
+        three = ("where", op("and", eq(0, 3), eq(3, 6)), ("join", "inner", YES, ("join", "inner", YES, T, T), T))
+        self.assertEqual(tightened(kept_piece(three, SCHEMAS)).plan,
+                         ("join", "inner", eq(3, 6), ("join", "inner", eq(0, 3), T, T), T))
+
+    def test_large_tables_are_not_paired_row_by_row(self):
+        plan = ("where", op("and", eq(0, 3), eq(3, 6)), ("join", "inner", YES, ("join", "inner", YES, T, T), T))
+        rows = [(at, "a", None) for at in range(2000)]
+        view = View(plan, SCHEMAS, {"t": rows})
+        self.assertEqual(view.rows(), [row * 3 for row in rows])
+        view.change({"t": ([rows[7]], [(7, "b", True)])})
+        self.assertEqual(view.rows()[7], (7, "b", True) * 3)
+        self.assertLess(view.looked(), 100)
 
 
 if __name__ == "__main__":
