@@ -218,6 +218,13 @@ class Database:
         """The same on the tables that a run sees."""
         return self.told_on(text, seen.segments(self.asked_of(text).tables), choice, settings)
 
+    def become(self, other):
+        """Takes over all that another database has."""
+        self.store = other.store
+        self.named = other.named
+        self.asked = {}
+        self.kept_at = None
+
     def leap(self, version):
         """Goes on to a version up to which nothing changes."""
         self.store.leap(version)

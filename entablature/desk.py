@@ -258,7 +258,7 @@ class Desk:
             raise BadForm()
         made = Desk()
         made.build(payload)
-        self.database = made.database
+        self.database.become(made.database)
         self.taken = made.taken
         self.levels = made.levels
         self.rights = made.rights

@@ -104,10 +104,9 @@ def ways_from(edges, many):
     return ways
 
 
-def first_order(history, footprints, sessions=()):
-    """The least order of the runs such that all edges lead on, or None."""
-    ways = ways_from(sorts_by_edges(history, footprints, sessions), len(history))
-    ahead = [0 for _ in history]
+def least_order(ways):
+    """The least order of places such that all ways lead on, or as much of it as there is ahead of rings."""
+    ahead = [0 for _ in ways]
     for way in ways:
         for b in way:
             ahead[b] += 1
@@ -121,7 +120,13 @@ def first_order(history, footprints, sessions=()):
             ahead[b] -= 1
             if ahead[b] == 0:
                 heappush(free, b)
-    return tuple(told) if len(told) == len(history) else None
+    return tuple(told)
+
+
+def first_order(history, footprints, sessions=()):
+    """The least order of the runs such that all edges lead on, or None."""
+    told = least_order(ways_from(sorts_by_edges(history, footprints, sessions), len(history)))
+    return told if len(told) == len(history) else None
 
 
 def steps_back(back, first, most):
@@ -146,9 +151,10 @@ def first_ring(history, footprints, sessions=()):
     edges = sorts_by_edges(history, footprints, sessions)
     ways = ways_from(edges, len(history))
     back = ways_from([(b, a) for a, b in edges], len(history))
+    settled = {at: True for at in least_order(ways)}
     most = len(history)
     best = None
-    for first in range(len(history)):
+    for first in [at for at in range(len(history)) if at not in settled]:
         far = steps_back(back, first, most)
         if first in far:
             best = (first, far)
