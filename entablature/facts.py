@@ -222,4 +222,5 @@ class Knowing:
 def facts(plan, schemas):
     """For each column whether it may be null and whether it may be a fault; whether the plan may fail; its keys."""
     known = Knowing({schema[0]: schema for schema in schemas}).plan(plan, [])
-    return known.nulls, known.faults, known.fails, known.unique.listed()
+    unique = known.unique.listed({at: True for at in range(len(known.nulls))})
+    return known.nulls, known.faults, known.fails, unique

@@ -27,11 +27,6 @@ BLANK = 32
 LAST = 126
 
 
-def is_octet(x):
-    """Whether something is a number from 0 to 255."""
-    return type(x) is int and 0 <= x <= 255
-
-
 def are_octets(xs):
     """Whether all of some things are numbers from 0 to 255."""
     if not all([type(x) is int for x in xs]):
