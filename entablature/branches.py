@@ -160,9 +160,9 @@ def with_args(expr, args, plans):
 
 
 def gather_tables(plan, found):
-    """Puts the tables that a plan scans, in plans in expressions too, into a dict."""
+    """Counts the scans of each table in a plan, in plans in expressions too, in a dict."""
     if plan[0] == "scan":
-        found[plan[1]] = True
+        found[plan[1]] = found.get(plan[1], 0) + 1
     for expr in exprs_of(plan):
         gather_expr_tables(expr, found)
     for below in inputs_of(plan):
@@ -177,11 +177,16 @@ def gather_expr_tables(expr, found):
         gather_tables(plan, found)
 
 
-def tables_of(plan):
-    """The tables that a plan scans, in plans in expressions too, in rising order."""
+def scans_of(plan):
+    """For each table that a plan scans, in plans in expressions too, how often it does."""
     found = {}
     gather_tables(plan, found)
-    return tuple(sorted(found))
+    return found
+
+
+def tables_of(plan):
+    """The tables that a plan scans, in plans in expressions too, in rising order."""
+    return tuple(sorted(scans_of(plan)))
 
 
 def expr_changed(expr, level, change):

@@ -1,10 +1,11 @@
 """A database: a store with views, asked by queries at each of its versions."""
 
 from entablature.binder import bound_with
-from entablature.branches import tables_of
+from entablature.branches import scans_of, tables_of
 from entablature.errors import BadKey, BadKind, BadName, NoSuch, TooMuch
 from entablature.estimate import cost
 from entablature.grammar import parse
+from entablature.meaning import answer
 from entablature.names import is_name
 from entablature.optimise import candidates, running_by
 from entablature.piece import piece_of
@@ -19,6 +20,8 @@ from entablature.view import View, kept_piece
 MOST_VIEWS = 10
 # So many queries are kept bound, so that one that is asked again need not be read again.
 MOST_KEPT = 300
+# So few ways to take rows for the scans of a query are gone through one by one.
+FEW_WAYS = 2500
 # Tables may grow or shrink by so many rows before runs look for other candidates.
 SPARE_ROWS = 20
 
@@ -45,12 +48,23 @@ class Asked:
     def __init__(self, plan, names):
         self.plan = plan
         self.names = names
-        self.tables = tables_of(plan)
+        self.scans = scans_of(plan)
+        self.tables = tuple(sorted(self.scans))
         # The version for which these are the candidates.
         self.at = None
         self.ways = []
         # How many rows the tables had when runs asked for candidates.
         self.rows = 0
+
+    def is_little(self, rows):
+        """Whether there are only few ways to take a row for each scan, if the tables have such rows."""
+        many = 1
+        for name, times in self.scans.items():
+            for _ in range(times):
+                many = many * max(len(rows[name]), 1)
+                if many > FEW_WAYS:
+                    return False
+        return True
 
 
 class Database:
@@ -211,12 +225,21 @@ class Database:
         """What an ask tells of a query on segments of tables: its rows as a tuple, or a fault."""
         running = self.way(self.asked_of(text), choice)
         budget, batch, workers, turns = settings
-        answer = run(running, tables, budget=budget, batch=batch, workers=workers, turns=turns)[0]
-        return answer if is_fault(answer) else tuple(answer)
+        found = run(running, tables, budget=budget, batch=batch, workers=workers, turns=turns)[0]
+        return found if is_fault(found) else tuple(found)
+
+    def told_straight(self, asked, rows):
+        """The same on the rows of tables, by what the plan means."""
+        found = answer(asked.plan, {name: (self.schema(name), rows[name]) for name in asked.tables})
+        return found if is_fault(found) else tuple(found)
 
     def told(self, text, seen, choice, settings):
-        """The same on the tables that a run sees."""
-        return self.told_on(text, seen.segments(self.asked_of(text).tables), choice, settings)
+        """The same on the tables that a run sees; where little is to be done no plan is chosen for that."""
+        asked = self.asked_of(text)
+        rows = {name: seen.rows(name) for name in asked.tables}
+        if asked.is_little(rows):
+            return self.told_straight(asked, rows)
+        return self.told_on(text, seen.segments(asked.tables), choice, settings)
 
     def become(self, other):
         """Takes over all that another database has."""

@@ -1,15 +1,10 @@
 """Runs told serially: each on the plain tables that the ones ahead of it made."""
 
-from entablature.branches import tables_of
 from entablature.doing import Hand
 from entablature.errors import NoSuch
-from entablature.meaning import answer
 from entablature.programs import key_column
 from entablature.store import segmented
-from entablature.value import is_fault
 
-# Queries on tables that have so few rows are worked out straight, others by an optimised plan.
-FEW_ROWS = 40
 PLAIN = 0
 MOST_SEGMENT_ROWS = 256
 SETTINGS = (1000, 64, 1, ())
@@ -36,18 +31,14 @@ def plain_tables(database, version):
 
 def asked(database, text, tables):
     """What an ask tells of a query on plain tables: its rows as a tuple, or a fault."""
-    plan, _ = database.bound(text)
-    found = {}
-    many = 0
-    for name in tables_of(plan):
-        found[name] = (database.schema(name), list(tables[name].values()))
-        many += len(found[name][1])
-    if many <= FEW_ROWS:
-        told = answer(plan, found)
-        return told if is_fault(told) else tuple(told)
+    query = database.asked_of(text)
+    rows = {name: list(tables[name].values()) for name in query.tables}
+    if query.is_little(rows):
+        return database.told_straight(query, rows)
     segments = {}
-    for name, (schema, rows) in found.items():
-        segments[name] = (schema, segmented(schema, rows, PLAIN, MOST_SEGMENT_ROWS))
+    for name in query.tables:
+        schema = database.schema(name)
+        segments[name] = (schema, segmented(schema, rows[name], PLAIN, MOST_SEGMENT_ROWS))
     return database.told_on(text, segments, 0, SETTINGS)
 
 

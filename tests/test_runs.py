@@ -181,6 +181,29 @@ class Statements(unittest.TestCase):
                 one.step(choice=choice, budget=4, batch=1, workers=3, turns=[2, 1, 5])
             self.assertEqual(one.told, first)
 
+    def test_any_settings_tell_the_same_on_longer_tables(self):
+        told = database()
+        told.commit([("t", [], [(at, "a" if at % 3 else None, at % 17) for at in range(3, 90)]),
+                     ("u", [], [(at % 11, "k%d" % at, at % 2 == 0) for at in range(80)])])
+        told.view("v", "SELECT b, sum(n) AS s FROM t GROUP BY b")
+        statements = (("put", "t", (("value", 900), text("a"), num(7))), ("ask", "SELECT t.a, f FROM t LEFT JOIN u ON t.n = u.x + 5 WHERE k LIKE '*1*'"),
+                      ("ask", "SELECT k, count(*) FROM t, u WHERE n = x GROUP BY k"), ("drop", "u", ("value", "k3")), ("ask", "SELECT k FROM u, v WHERE x < s ORDER BY k DESC LIMIT 7"),
+                      ("ask", "SELECT sum(1 / (n - x)) FROM t, u"), ("ask", "SELECT a FROM t WHERE EXISTS (SELECT 1 FROM u WHERE x = t.n AND f)"))
+        first = run_of(told, *statements).finish()
+        tables = {"t": (T, [row for row in told.store.rows("t", 2)] + [(900, "a", 7)]), "u": (U, told.store.rows("u", 2)), "free": (FREE, told.store.rows("free", 2))}
+        for at, statement in enumerate(statements):
+            if statement[0] == "drop":
+                tables["u"] = (U, [row for row in tables["u"][1] if row[1] != "k3"])
+            if statement[0] == "ask":
+                due = answer(told.bound(statement[1])[0], tables)
+                self.assertEqual(first[at], tuple(due) if isinstance(due, list) else due)
+        self.assertEqual(first[5], fault(1))
+        for choice in range(5):
+            one = run_of(told, *statements)
+            for _ in statements:
+                one.step(choice=choice, budget=6, batch=3, workers=3, turns=[2, 1, 5])
+            self.assertEqual(one.told, first)
+
 
 class Commits(unittest.TestCase):
 
